@@ -1,0 +1,194 @@
+"""Webs of places and roads: what they are, their ways, their pieces and their rings."""
+
+from roundpost.errors import BadPieces, BadPlace, BadWeb
+
+MOST_SIGNS = 8
+MOST_PLACES = 10
+MOST_ROADS = 14
+LETTERS = "abcdefghijklmnopqrstuvwxyz"
+SIGNS = "abcdefghijklmnopqrstuvwxyz0123456789"
+
+
+def is_name(thing):
+    """Whether it is a name, of a place or of a road."""
+    if not isinstance(thing, str) or not 1 <= len(thing) <= MOST_SIGNS:
+        return False
+    return thing[0] in LETTERS and all([sign in SIGNS for sign in thing])
+
+
+def are_places(thing):
+    """Whether it is what may stand first in a web."""
+    if not isinstance(thing, tuple) or not 1 <= len(thing) <= MOST_PLACES:
+        return False
+    return all([is_name(place) for place in thing]) and len(set(thing)) == len(thing)
+
+
+def is_road_between(places, thing):
+    """Whether it is a road that joins two unlike ones of these places."""
+    if not isinstance(thing, tuple) or len(thing) != 3:
+        return False
+    name, near, far = thing
+    # Objects of other kinds are kept from ==, which they may define as they like.
+    if not isinstance(near, str) or not isinstance(far, str):
+        return False
+    return is_name(name) and near in places and far in places and near != far
+
+
+def are_roads_between(places, thing):
+    """Whether it is what may stand second in a web of these places."""
+    if not isinstance(thing, tuple) or len(thing) > MOST_ROADS:
+        return False
+    if not all([is_road_between(places, road) for road in thing]):
+        return False
+    return len({road[0] for road in thing}) == len(thing)
+
+
+def is_web(thing):
+    """Whether it is a web: a tuple of its places and of its roads."""
+    if not isinstance(thing, tuple) or len(thing) != 2:
+        return False
+    places, roads = thing
+    return are_places(places) and are_roads_between(places, roads)
+
+
+def need_web(web):
+    """Raises BadWeb for what is no web."""
+    if not is_web(web):
+        raise BadWeb("this is no web")
+
+
+def need_place(web, place):
+    """Raises BadPlace for what is no place of the web."""
+    if not isinstance(place, str) or place not in web[0]:
+        raise BadPlace("this is no place of the web")
+
+
+def need_one_piece(web):
+    """Raises BadWeb for what is no web, BadPieces for a web of several pieces."""
+    if len(pieces(web)) != 1:
+        raise BadPieces("this web has several pieces")
+
+
+def are_unlike_roads(web, thing):
+    """Whether it is a tuple of names of roads of the web, none twice."""
+    names = [road[0] for road in web[1]]
+    if not isinstance(thing, tuple) or len(thing) > len(names):
+        return False
+    if not all([isinstance(name, str) and name in names for name in thing]):
+        return False
+    return len(set(thing)) == len(thing)
+
+
+def roads_at(web, place):
+    """The list of (road, place at its other end) of the roads at a place, as they stand in the web."""
+    found = []
+    for name, near, far in web[1]:
+        if near == place:
+            found.append((name, far))
+        if far == place:
+            found.append((name, near))
+    return found
+
+
+def steps_from(web, place):
+    """The dict of the distances of all places that a way joins with this one."""
+    steps = {place: 0}
+    border = [place]
+    while border:
+        beyond = []
+        for here in border:
+            for _, there in roads_at(web, here):
+                if there not in steps:
+                    steps[there] = steps[here] + 1
+                    beyond.append(there)
+        border = beyond
+    return steps
+
+
+def distance(web, place, other):
+    """The number of roads in a shortest way between two places, None if there is no way."""
+    need_web(web)
+    need_place(web, place)
+    need_place(web, other)
+    return steps_from(web, place).get(other)
+
+
+def way_of(web, place, other):
+    """The first of the shortest ways from place to other by the numbers of their roads, None if there is none."""
+    need_web(web)
+    need_place(web, place)
+    need_place(web, other)
+    left = steps_from(web, other)
+    if place not in left:
+        return None
+    way = []
+    here = place
+    while here != other:
+        # All shortest ways are equally long, so the first of them begins with the first road that is on one.
+        nearer = [step for step in roads_at(web, here) if left[step[1]] < left[here]]
+        name, here = nearer[0]
+        way.append(name)
+    return tuple(way)
+
+
+def pieces(web):
+    """The ascending list of the pieces, each the ascending tuple of its places."""
+    need_web(web)
+    return sorted({tuple(sorted(steps_from(web, place))) for place in web[0]})
+
+
+def is_tree(web):
+    """Whether a web has one piece and one road fewer than places."""
+    return len(pieces(web)) == 1 and len(web[1]) == len(web[0]) - 1
+
+
+def longest_way(web):
+    """The greatest distance and the first two places that have it, for a web of one piece."""
+    need_one_piece(web)
+    places = web[0]
+    longest = (0, places[0], places[0])
+    for place in places:
+        steps = steps_from(web, place)
+        for other in places:
+            if steps[other] > longest[0]:
+                longest = (steps[other], place, other)
+    return longest
+
+
+def ring_of(web):
+    """A ring of the web, None if there is none."""
+    need_web(web)
+    places, roads = web
+    for road in roads:
+        name, near, far = road
+        others = tuple([one for one in roads if one != road])
+        # A shortest way comes to no place twice, so it makes a ring with the road that it does not use.
+        back = way_of((places, others), far, near)
+        if back is not None:
+            return (name,) + back
+    return None
+
+
+def ring_holds(web, thing):
+    """Whether it is a ring of the web."""
+    need_web(web)
+    if not are_unlike_roads(web, thing) or len(thing) < 2:
+        return False
+    ends = {name: (near, far) for name, near, far in web[1]}
+    near, far = ends[thing[0]]
+    return goes_round(ends, thing, near) or goes_round(ends, thing, far)
+
+
+def goes_round(ends, names, start):
+    """Whether the roads lead, one behind the other, from start back to it, to no place twice."""
+    here = start
+    come_to = []
+    for name in names:
+        near, far = ends[name]
+        if here != near and here != far:
+            return False
+        here = far if here == near else near
+        if here in come_to:
+            return False
+        come_to.append(here)
+    return here == start

@@ -1,0 +1,113 @@
+"""Webs, weeks and wrong objects that several tests use."""
+
+from itertools import combinations, product
+
+T = (("a", "b", "c", "d", "e"), (("r", "a", "b"), ("s", "b", "c"), ("t", "c", "d"), ("u", "c", "e")))
+T_TEXT = "place a\nplace b\nplace c\nplace d\nplace e\nroad r a b\nroad s b c\nroad t c d\nroad u c e\nround r s t u"
+ALONE = (("a",), ())
+APART = (("a", "b"), ())
+PARALLEL = (("a", "b"), (("p", "a", "b"), ("q", "b", "a")))
+TRIANGLE = (("a", "b", "c"), (("x", "a", "b"), ("y", "b", "c"), ("z", "c", "a")))
+SAME_NAMES = (("a", "b", "c"), (("c", "a", "b"), ("b", "b", "c")))
+RING_AND_PIECE = (("z", "m", "a", "k", "b"), (("v", "z", "a"), ("w", "a", "m"), ("a", "m", "z"), ("k", "k", "b")))
+SQUARE = (
+    ("d", "c", "b", "a"),
+    (("h", "a", "b"), ("g", "d", "c"), ("f", "b", "d"), ("e", "c", "a"), ("i", "a", "b")),
+)
+TEN = tuple("abcdefghij")
+LINE_OF_TEN = (TEN, tuple((f"r{k}", TEN[k], TEN[k + 1]) for k in range(9)))
+FOURTEEN_ROADS = (TEN, tuple((f"r{k}", TEN[k % 10], TEN[(k + 1 + k // 10) % 10]) for k in range(14)))
+FOURTEEN_PARALLEL = (("a", "b"), tuple((f"r{k}", "a", "b") for k in range(14)))
+LONG_NAMES = (("abcdefgh", "z0123456"), (("z9999999", "abcdefgh", "z0123456"),))
+
+WEBS = [
+    T, ALONE, APART, PARALLEL, TRIANGLE, SAME_NAMES, RING_AND_PIECE, SQUARE, LINE_OF_TEN, FOURTEEN_ROADS,
+    FOURTEEN_PARALLEL, LONG_NAMES,
+]
+
+
+class Touchy:
+    """An object that can be neither compared nor hashed."""
+
+    __hash__ = None
+
+    def __eq__(self, other):
+        raise AssertionError("compared")
+
+    def __len__(self):
+        raise AssertionError("measured")
+
+
+def deep(depth):
+    """A list that is nested so deep."""
+    thing = []
+    for _ in range(depth):
+        thing = [thing]
+    return thing
+
+
+def odd_things():
+    """Objects that are no web, no week, no way and no name of anything, nor a text of a web."""
+    return [
+        None, True, False, 0, 1, 2, -1, 10 ** 59, "", " ", "\n", "\t", "A", "1a", "a b", "no such", [], {}, set(),
+        frozenset(), b"", b"a", object(), Touchy(), len, Touchy, range(2), (None,), (True, False), (0, 1), ([], []),
+        ("",), ["a"], {"a": 1}, {"a"}, ("a", "b", "c", "d"), deep(49), (Touchy(), Touchy()),
+        ((Touchy(),), ()), (("a", "b"), (Touchy(),)),
+    ]
+
+
+def small_webs():
+    """All webs of up to four places and four roads, but for the names and the sequence of roads."""
+    found = []
+    for many in range(1, 5):
+        places = ("b", "d", "a", "c")[:many]
+        pairs = list(combinations(places, 2)) + [(far, near) for near, far in combinations(places[:2], 2)]
+        for count in range(5):
+            for chosen in product(pairs, repeat=count):
+                if many < 4 or count < 4 or chosen[0] == pairs[0]:
+                    found.append((places, tuple((f"n{9 - k}", near, far) for k, (near, far) in enumerate(chosen))))
+    return found
+
+
+def walked(web, place, names):
+    """The places that the roads lead to, one behind the other, from a place; None if they do not."""
+    come_to = []
+    here = place
+    for name in names:
+        ends = [{near, far} for road, near, far in web[1] if road == name]
+        if len(ends) != 1 or here not in ends[0]:
+            return None
+        (here,) = ends[0] - {here}
+        come_to.append(here)
+    return come_to
+
+
+def all_ways(web, place, most):
+    """The (way, end) of all ways of at most so many roads from a place."""
+    found = [((), place)]
+    latest = found
+    for _ in range(most):
+        latest = [
+            (way + (name,), far if near == here else near)
+            for way, here in latest for name, near, far in web[1] if here in (near, far)
+        ]
+        found = found + latest
+    return found
+
+
+def all_rings(web):
+    """The rings of a web, found by going on from each place until something is come to twice."""
+    found = set()
+    for start in web[0]:
+        open_ways = [()]
+        while open_ways:
+            way = open_ways.pop()
+            for name in [road[0] for road in web[1] if road[0] not in way]:
+                come_to = walked(web, start, way + (name,))
+                if come_to is None or len(set(come_to)) < len(come_to):
+                    continue
+                if come_to[-1] != start:
+                    open_ways.append(way + (name,))
+                elif len(way) > 0:
+                    found.add(way + (name,))
+    return found
