@@ -171,6 +171,16 @@ class Reading(unittest.TestCase):
         self.check(PLACES + "\nroad p a b\nroad p x x", 4, 1)
         self.assertEqual(read_web(write_web(SAME_NAMES, (("b", "c"),))), (SAME_NAMES, (("b", "c"),)))
 
+    def test_names_like_the_first_words_of_rows(self):
+        roads = (("round", "road", "round"), ("road", "place", "road"), ("place", "road", "place"))
+        web = (("place", "road", "round"), roads)
+        week = (("round", "road", "place"), ("place", "round"))
+        text = "place place\nplace road\nplace round"
+        text = text + "\nroad round road round\nroad road place road\nroad place road place"
+        self.assertEqual(write_web(web, week), text + "\nround round road place\nround place round")
+        self.assertEqual(read_web(write_web(web, week)), (web, week))
+        self.check(text + "\nround round round", 6, 2)
+
     def test_a_later_word_that_cannot_be_right(self):
         self.check("place a\nroad", 1, 1)
         self.check("place a\nroad r", 1, 2)
