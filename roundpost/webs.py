@@ -1,6 +1,6 @@
 """Webs of places and roads: what they are, their ways, their pieces and their rings."""
 
-from roundpost.errors import BadPieces, BadPlace, BadWeb
+from roundpost.errors import BadPieces, BadPlace, BadTree, BadWeb
 
 MOST_SIGNS = 8
 MOST_PLACES = 10
@@ -69,6 +69,12 @@ def need_one_piece(web):
         raise BadPieces("this web has several pieces")
 
 
+def need_tree(web):
+    """Raises BadWeb for what is no web, BadTree for a web that is no tree."""
+    if not is_tree(web):
+        raise BadTree("this web is no tree")
+
+
 def are_unlike_roads(web, thing):
     """Whether it is a tuple of names of roads of the web, none twice."""
     names = [road[0] for road in web[1]]
@@ -77,6 +83,17 @@ def are_unlike_roads(web, thing):
     if not all([isinstance(name, str) and name in names for name in thing]):
         return False
     return len(set(thing)) == len(thing)
+
+
+def ends_of(web):
+    """The dict of the two places of each road."""
+    return {name: (near, far) for name, near, far in web[1]}
+
+
+def without_road(web, name):
+    """The web without the road of this name."""
+    places, roads = web
+    return places, tuple([road for road in roads if road[0] != name])
 
 
 def roads_at(web, place):
@@ -103,6 +120,19 @@ def steps_from(web, place):
                     beyond.append(there)
         border = beyond
     return steps
+
+
+def places_along(ends, names, start):
+    """The places to which the roads lead, one behind the other, from start; None if they do not."""
+    here = start
+    come_to = []
+    for name in names:
+        near, far = ends[name]
+        if here != near and here != far:
+            return None
+        here = far if here == near else near
+        come_to.append(here)
+    return come_to
 
 
 def distance(web, place, other):
@@ -158,12 +188,9 @@ def longest_way(web):
 def ring_of(web):
     """A ring of the web, None if there is none."""
     need_web(web)
-    places, roads = web
-    for road in roads:
-        name, near, far = road
-        others = tuple([one for one in roads if one != road])
+    for name, near, far in web[1]:
         # A shortest way comes to no place twice, so it makes a ring with the road that it does not use.
-        back = way_of((places, others), far, near)
+        back = way_of(without_road(web, name), far, near)
         if back is not None:
             return (name,) + back
     return None
@@ -174,21 +201,14 @@ def ring_holds(web, thing):
     need_web(web)
     if not are_unlike_roads(web, thing) or len(thing) < 2:
         return False
-    ends = {name: (near, far) for name, near, far in web[1]}
+    ends = ends_of(web)
     near, far = ends[thing[0]]
     return goes_round(ends, thing, near) or goes_round(ends, thing, far)
 
 
 def goes_round(ends, names, start):
     """Whether the roads lead, one behind the other, from start back to it, to no place twice."""
-    here = start
-    come_to = []
-    for name in names:
-        near, far = ends[name]
-        if here != near and here != far:
-            return False
-        here = far if here == near else near
-        if here in come_to:
-            return False
-        come_to.append(here)
-    return here == start
+    come_to = places_along(ends, names, start)
+    if come_to is None or come_to[-1] != start:
+        return False
+    return len(set(come_to)) == len(come_to)

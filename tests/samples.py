@@ -1,6 +1,6 @@
-"""Webs, weeks and wrong objects that several tests use."""
+"""Webs, rotas, weeks and wrong objects that several tests use."""
 
-from itertools import combinations, product
+from itertools import combinations, permutations, product
 
 T = (("a", "b", "c", "d", "e"), (("r", "a", "b"), ("s", "b", "c"), ("t", "c", "d"), ("u", "c", "e")))
 T_TEXT = "place a\nplace b\nplace c\nplace d\nplace e\nroad r a b\nroad s b c\nroad t c d\nroad u c e\nround r s t u"
@@ -19,10 +19,16 @@ LINE_OF_TEN = (TEN, tuple((f"r{k}", TEN[k], TEN[k + 1]) for k in range(9)))
 FOURTEEN_ROADS = (TEN, tuple((f"r{k}", TEN[k % 10], TEN[(k + 1 + k // 10) % 10]) for k in range(14)))
 FOURTEEN_PARALLEL = (("a", "b"), tuple((f"r{k}", "a", "b") for k in range(14)))
 LONG_NAMES = (("abcdefgh", "z0123456"), (("z9999999", "abcdefgh", "z0123456"),))
+FIVE_PAIRS = (TEN, tuple((f"r{k}", TEN[k % 5], TEN[k % 5 + 5]) for k in range(14)))
+STAR = (("m", "d", "a", "c", "b"), (("q", "m", "d"), ("p", "a", "m"), ("s", "m", "c"), ("o", "b", "m")))
+LINE = (
+    ("e", "a", "d", "b", "c", "f"),
+    (("k", "a", "b"), ("m", "c", "d"), ("l", "b", "c"), ("n", "e", "d"), ("j", "f", "e")),
+)
 
 WEBS = [
     T, ALONE, APART, PARALLEL, TRIANGLE, SAME_NAMES, RING_AND_PIECE, SQUARE, LINE_OF_TEN, FOURTEEN_ROADS,
-    FOURTEEN_PARALLEL, LONG_NAMES,
+    FOURTEEN_PARALLEL, LONG_NAMES, FIVE_PAIRS, STAR, LINE,
 ]
 
 
@@ -67,6 +73,32 @@ def small_webs():
                 if many < 4 or count < 4 or chosen[0] == pairs[0]:
                     found.append((places, tuple((f"n{9 - k}", near, far) for k, (near, far) in enumerate(chosen))))
     return found
+
+
+def names_of(web):
+    """The names of the roads, in the web's sequence."""
+    return tuple(road[0] for road in web[1])
+
+
+def all_rotas(web):
+    """All rotas of a web, as tuples of the numbers of their roads compare."""
+    return list(permutations(names_of(web)))
+
+
+def some_rotas(web):
+    """A few rotas of a web that are unlike each other, where there are several."""
+    names = names_of(web)
+    return sorted({names, names[::-1], names[::2] + names[1::2], names[2:] + names[:2][::-1]})
+
+
+def some_weeks(web):
+    """Weeks of one to four rounds, with rounds that are empty or lack some roads."""
+    names = names_of(web)
+    half = len(names) // 2
+    return [
+        (names,), (names[::-1],), (names[:half], names[half:]), ((), names[1:]), (names[::-2], (), names[:1]),
+        (names[half:], names[::2], (), names[:half][::-1]), ((),), (names[:1], names[:1], (), ()),
+    ]
 
 
 def walked(web, place, names):

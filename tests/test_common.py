@@ -4,29 +4,18 @@ import copy
 import inspect
 import unittest
 
+from calls import CALLS, WRONG, error_of
+from roundpost.alike import are_alike, count_alike, exchanges_hold, order_ring_holds
 from roundpost.errors import BadPieces, BadPlace, BadRows, BadWeb, BadWeek
+from roundpost.news import days, never_holds, trail_holds
+from roundpost.returns import tree_sum
+from roundpost.rotas import ranks
 from roundpost.texts import read_web, write_web
-from roundpost.webs import distance, is_tree, is_web, longest_way, pieces, ring_holds, ring_of, way_of
-from samples import APART, PARALLEL, RING_AND_PIECE, T, T_TEXT, TRIANGLE, odd_things
+from roundpost.webs import distance, is_tree, is_web, longest_way, ring_holds, way_of
+from samples import ALONE, APART, PARALLEL, T, odd_things
+from test_interface import FUNCTIONS
 
 WEEK = (("r", "s"), ("t",))
-
-CALLS = [
-    (is_web, {"thing": T}),
-    (is_web, {"thing": [T, [], {"a": [1]}]}),
-    (distance, {"web": T, "place": "a", "other": "e"}),
-    (way_of, {"web": T, "place": "a", "other": "e"}),
-    (pieces, {"web": RING_AND_PIECE}),
-    (pieces, {"web": T}),
-    (is_tree, {"web": T}),
-    (longest_way, {"web": T}),
-    (ring_of, {"web": TRIANGLE}),
-    (ring_of, {"web": T}),
-    (ring_holds, {"web": TRIANGLE, "thing": ("x", "y", "z")}),
-    (ring_holds, {"web": TRIANGLE, "thing": ["x", ["y"]]}),
-    (write_web, {"web": T, "week": WEEK}),
-    (read_web, {"text": T_TEXT}),
-]
 
 
 def lists_in(thing):
@@ -81,14 +70,74 @@ class EveryFunction(unittest.TestCase):
         for thing in odd_things():
             self.assertIs(is_web(thing), False)
             self.assertIs(ring_holds(PARALLEL, thing), False)
+            self.assertIs(trail_holds(T, WEEK, "a", (1, 0), thing), False)
+            self.assertIs(never_holds(APART, ((),), "a", "b", thing), False)
+            self.assertIs(order_ring_holds(PARALLEL, [("p", "q"), ("q", "p")], thing), False)
+            if not isinstance(thing, list) or thing:
+                self.assertIs(exchanges_hold(ALONE, (), (), thing), False)
         for web in [T, APART, PARALLEL]:
             self.assertIs(type(is_web(web)), bool)
             self.assertIs(type(is_tree(web)), bool)
             self.assertIs(type(ring_holds(web, ("p", "q"))), bool)
+        for call, arguments in CALLS:
+            if "thing" in arguments:
+                self.assertIs(type(call(**arguments)), bool)
 
     def test_integers_are_no_truths(self):
-        for result in [distance(T, "a", "a"), distance(T, "a", "b"), longest_way(PARALLEL)[0]]:
+        for result in [
+            distance(T, "a", "a"), distance(T, "a", "b"), longest_way(PARALLEL)[0], days(T, WEEK, "a", "a"),
+            days(T, WEEK, "a", "b"), *ranks(PARALLEL, ("q", "p")), tree_sum(ALONE), count_alike(ALONE, ()),
+        ]:
             self.assertIs(type(result), int)
+        self.assertIs(type(are_alike(ALONE, (), ())), bool)
+
+    def test_every_function_is_called(self):
+        called = {f"{call.__module__}.{call.__name__}" for call, _ in CALLS}
+        expected = {f"roundpost.{module}.{name}" for module in FUNCTIONS for name in FUNCTIONS[module]}
+        self.assertEqual(called, expected)
+
+
+class WrongArguments(unittest.TestCase):
+    def wrong_for(self, error, arguments):
+        """Objects that are wrong where this error is raised."""
+        whole = [thing for thing in odd_things() if isinstance(thing, int) and not isinstance(thing, bool)]
+        found = [thing for thing in odd_things() if not any(thing is one for one in whole)]
+        return found + (WRONG[error] if arguments["web"] == T or error is BadWeb else [])
+
+    def test_each_wrong_argument_raises_its_error(self):
+        for call, arguments in CALLS:
+            for name in arguments:
+                error = error_of(call, name)
+                if error is not None and call is not read_web:
+                    for thing in self.wrong_for(error, arguments):
+                        self.assertRaises(error, call, **{**arguments, name: thing})
+
+    def test_the_first_wrong_one_raises_its_error(self):
+        for call, arguments in CALLS:
+            names = list(arguments)
+            for at, name in enumerate(names):
+                error = error_of(call, name)
+                if error is not None and call is not read_web:
+                    wrong = dict.fromkeys(names[at + 1:])
+                    for thing in self.wrong_for(error, arguments)[::3]:
+                        self.assertRaises(error, call, **{**arguments, name: thing, **wrong})
+
+    def test_what_any_object_may_be_raises_nothing(self):
+        for call, arguments in CALLS:
+            if "thing" in arguments:
+                for thing in odd_things():
+                    self.assertIn(call(**{**arguments, "thing": thing}), [True, False])
+
+    def test_wrong_arguments_stay_as_they_are(self):
+        for call, arguments in CALLS:
+            for name in arguments:
+                for thing in [[1, [2]], {"a": [1]}, [["r"], ("s",)]]:
+                    before = copy.deepcopy(thing)
+                    try:
+                        call(**{**arguments, name: thing})
+                    except ValueError:
+                        pass
+                    self.assertEqual(thing, before)
 
 
 class SequenceOfErrors(unittest.TestCase):
@@ -108,7 +157,7 @@ class SequenceOfErrors(unittest.TestCase):
         self.assertRaises(BadPieces, longest_way, (("a", "b", "c"), ()))
 
     def test_no_text_at_all(self):
-        for thing in [None, True, 0, [], ()]:
+        for thing in [None, True, 0, [], ()] + WRONG[BadRows]:
             self.assertRaises(BadRows, read_web, thing)
 
 

@@ -13,6 +13,30 @@ FUNCTIONS = {
         "ring_holds": ["web", "thing"],
     },
     "texts": {"write_web": ["web", "week"], "read_web": ["text"]},
+    "rotas": {
+        "ranks": ["web", "rota"], "rota_of": ["web", "ranks"], "turned_rota": ["web", "rota", "count"],
+        "backwards": ["web", "rota"], "walks_between": ["web", "week", "moment", "other"],
+    },
+    "news": {
+        "arrivals": ["web", "week", "place", "moment"], "days": ["web", "week", "place", "other"],
+        "day_table": ["web", "week"], "slowest": ["web", "week"],
+        "trail": ["web", "week", "place", "moment", "other"],
+        "trail_holds": ["web", "week", "place", "moment", "thing"],
+        "trail_end": ["web", "week", "place", "moment", "trail"], "never_paper": ["web", "week", "place", "other"],
+        "never_holds": ["web", "week", "place", "other", "thing"],
+    },
+    "returns": {
+        "turns": ["web", "rota", "way"], "way_days": ["web", "rota", "way"],
+        "there_and_back": ["web", "rota", "place", "other"], "saved": ["web", "rota"], "all_days": ["web", "rota"],
+        "tree_sum": ["web"], "answer_moment": ["web", "week", "place", "other", "moment"],
+    },
+    "alike": {
+        "local_orders": ["web", "rota"], "are_alike": ["web", "rota", "other"], "first_alike": ["web", "rota"],
+        "count_alike": ["web", "rota"], "exchanges": ["web", "rota", "other"],
+        "exchanges_hold": ["web", "rota", "other", "thing"], "rota_for": ["web", "orders"],
+        "order_ring": ["web", "orders"], "order_ring_holds": ["web", "orders", "thing"],
+        "swap_days": ["web", "rota", "index"],
+    },
 }
 
 
