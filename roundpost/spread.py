@@ -39,9 +39,9 @@ def listed(web, known):
     return [known.get(place) for place in web[0]]
 
 
-def days_from(web, week, place):
+def days_from(web, week, place, fallen=()):
     """The list of the days on which news of the dawn of this place comes to each place, None for never."""
-    known = spread(web, week, place, (1, 0))
+    known = spread(web, week, place, (1, 0), fallen)
     come = {other: known[other][0] for other in known}
     # Where it sets out it need not come: that day is told as 0.
     come[place] = 0
@@ -64,3 +64,12 @@ def slowest_in(web, table):
             if day > found[0]:
                 found = (day, place, other)
     return found
+
+
+def told(known, near, far):
+    """The dict of the tuples of places whose news each place knows, behind a walk between two of them."""
+    after = {place: known[place] for place in known}
+    both = tuple(sorted(set(known[near] + known[far])))
+    after[near] = both
+    after[far] = both
+    return after

@@ -4,13 +4,21 @@ from roundpost.alike import (
     are_alike, count_alike, exchanges, exchanges_hold, first_alike, local_orders, order_ring, order_ring_holds,
     rota_for, swap_days,
 )
-from roundpost.errors import BadCount, BadIndex, BadMoment, BadOrders, BadPlace, BadRanks, BadRota, BadTrail, BadWay
-from roundpost.errors import BadRows, BadWeb, BadWeek
+from roundpost.best import (
+    best_from, best_home, best_tree_rota, kept_best, least_slowest, slow_holds, slow_paper, table_fault, target_rota,
+)
+from roundpost.denials import beliefs, lags, last_belief, same_days
+from roundpost.errors import (
+    BadCount, BadIndex, BadMoment, BadOrders, BadPlace, BadRanks, BadRota, BadRows, BadSnow, BadTable, BadTrail, BadWay,
+    BadWeb, BadWeek,
+)
+from roundpost.knowing import all_known, idle_walks, known_at, lessons, needed_roads
 from roundpost.news import (
     arrivals, day_table, days, never_holds, never_paper, slowest, trail, trail_end, trail_holds,
 )
 from roundpost.returns import all_days, answer_moment, saved, there_and_back, tree_sum, turns, way_days
 from roundpost.rotas import backwards, ranks, rota_of, turned_rota, walks_between
+from roundpost.snow import snow_arrivals, snow_days, worst_snow
 from roundpost.texts import read_web, write_web
 from roundpost.webs import distance, is_tree, is_web, longest_way, pieces, ring_holds, ring_of, way_of
 from samples import PARALLEL, RING_AND_PIECE, T, T_TEXT, TRIANGLE, Touchy
@@ -20,6 +28,8 @@ OTHER = ("t", "r", "s", "u")
 WEEK = (("r", "s"), ("t", "u"))
 ORDERS = [("r",), ("r", "s"), ("s", "t", "u"), ("t",), ("u",)]
 RING_ORDERS = [("q", "p"), ("p", "q")]
+TABLE = [[0, 1, 1, 1, 1], [1, 0, 1, 1, 1], [2, 1, 0, 1, 1], [3, 2, 1, 0, 1], [3, 2, 1, 2, 0]]
+SNOW = ((2, "s"), (1, "s"), (1, "r"))
 
 # All arguments but those of the first few are of T, and the counts in them are right for what is wrong below.
 CALLS = [
@@ -75,12 +85,37 @@ CALLS = [
     (order_ring_holds, {"web": PARALLEL, "orders": RING_ORDERS, "thing": ("p", "q")}),
     (order_ring_holds, {"web": T, "orders": ORDERS, "thing": ["r", ["s"]]}),
     (swap_days, {"web": T, "rota": ROTA, "index": 2}),
+    (best_from, {"web": T, "place": "c"}),
+    (best_home, {"web": T, "place": "c"}),
+    (best_tree_rota, {"web": T}),
+    (least_slowest, {"web": T}),
+    (least_slowest, {"web": TRIANGLE}),
+    (slow_paper, {"web": T, "days": 1}),
+    (slow_paper, {"web": T, "days": 2}),
+    (slow_holds, {"web": T, "days": 1, "thing": ("e", "a")}),
+    (slow_holds, {"web": T, "days": 1, "thing": ["e", ["a"]]}),
+    (kept_best, {"web": T, "rota": ROTA}),
+    (target_rota, {"web": T, "table": TABLE}),
+    (table_fault, {"web": T, "table": TABLE}),
+    (table_fault, {"web": T, "table": [row[:4] + [None] for row in TABLE]}),
+    (beliefs, {"web": T, "week": WEEK, "place": "e", "moment": (1, 1), "other": "a", "later": (2, 1)}),
+    (last_belief, {"web": T, "week": WEEK, "place": "e", "moment": (1, 1), "other": "a", "later": (2, 1)}),
+    (lags, {"web": T, "rota": ROTA, "place": "e", "moment": (1, 1), "later": (2, 0)}),
+    (same_days, {"web": T, "rota": ROTA, "place": "c"}),
+    (known_at, {"web": T, "week": WEEK, "moment": (2, 1)}),
+    (all_known, {"web": T, "week": WEEK}),
+    (lessons, {"web": T, "week": WEEK, "count": 9}),
+    (idle_walks, {"web": T, "week": WEEK, "count": 9}),
+    (needed_roads, {"web": T, "rota": ROTA}),
+    (snow_arrivals, {"web": T, "week": WEEK, "place": "a", "moment": (1, 0), "snow": SNOW}),
+    (snow_days, {"web": T, "rota": ROTA, "place": "a", "other": "e", "snow": SNOW}),
+    (worst_snow, {"web": T, "rota": ROTA, "place": "a", "other": "e", "count": 1}),
 ]
 
 ERRORS = {
     "web": BadWeb, "place": BadPlace, "other": BadPlace, "rota": BadRota, "week": BadWeek, "moment": BadMoment,
     "ranks": BadRanks, "count": BadCount, "way": BadWay, "orders": BadOrders, "index": BadIndex, "trail": BadTrail,
-    "text": BadRows,
+    "text": BadRows, "days": BadCount, "table": BadTable, "later": BadMoment, "snow": BadSnow,
 }
 OTHER_ERRORS = {
     (walks_between, "other"): BadMoment, (are_alike, "other"): BadRota, (exchanges, "other"): BadRota,
@@ -123,6 +158,17 @@ WRONG = {
     BadTrail: [
         [("u", 2)], (["u", 2],), ("u", 2), (("u", 1),), (("u", 3),), (("r", 1),), (("u", True),), (("u", None),),
         (("u",),), (("u", 2, 0),), (("v", 2),), ((Touchy(), 2),), (("u", Touchy()),), (("u", 2), ("s", 1)), (("u", 0),),
+    ],
+    BadTable: [
+        tuple(TABLE), TABLE[:4], TABLE + [TABLE[0]], [tuple(row) for row in TABLE], [row[1:] for row in TABLE],
+        [row + [0] for row in TABLE], TABLE[:4] + [None], TABLE[:4] + [TABLE[4][:4] + [False]],
+        TABLE[:4] + [TABLE[4][:4] + [(0,)]], TABLE[:4] + [TABLE[4][:4] + [Touchy()]], TABLE[:4] + [Touchy()],
+        TABLE[:4] + [TABLE[4][:4] + ["0"]], [TABLE],
+    ],
+    BadSnow: [
+        list(SNOW), ([1, "r"],), ((1, "r"), (1, "r")), ((0, "r"),), ((1001, "r"),), ((1, "v"),), ((1, "a"),), (1, "r"),
+        ((True, "r"),), ((None, "r"),), ((1, None),), (("r", 1),), ((1,),), ((1, "r", 0),), ((1, Touchy()),),
+        ((Touchy(), "r"),), tuple((day, "r") for day in range(1, 10)), ((10 ** 59, "r"),), ((-1, "r"),), {(1, "r")},
     ],
     BadRows: ["", "place", "a", T_TEXT + "\n", " " + T_TEXT, T_TEXT[1:]],
 }

@@ -101,6 +101,28 @@ def some_weeks(web):
     ]
 
 
+def small_trees():
+    """All trees of up to five places, each place behind the first joined with one ahead, roads in other sequences."""
+    found = []
+    for many in range(1, 6):
+        places = ("c", "a", "e", "b", "d")[:many]
+        for chosen in product(*[places[:k] for k in range(1, many)]):
+            roads = tuple((f"n{9 - k}", far, places[k + 1]) for k, far in enumerate(chosen))
+            turn = len(found) % max(len(roads), 1)
+            found.append((places, roads[turn:] + roads[:turn][::-1]))
+    return found
+
+
+def trees_of_ten():
+    """Trees of ten places: a line, stars, and such in which lines meet at one or at two places."""
+    found = [LINE_OF_TEN]
+    for chosen in [[0] * 9, [0, 0, 0, 1, 2, 3, 4, 5, 6], [0, 0, 1, 2, 3, 4, 5, 5, 7], [0, 1, 0, 1, 2, 3, 4, 5, 6],
+                   [0, 1, 2, 3, 4, 2, 3, 4, 5], [0, 1, 2, 3, 3, 3, 2, 1, 0], [0, 1, 1, 0, 4, 5, 2, 7, 8]]:
+        roads = [(f"n{k}", TEN[far], TEN[k + 1]) for k, far in enumerate(chosen)]
+        found.append((TEN, tuple(roads[::2] + roads[1::2])))
+    return found
+
+
 def walked(web, place, names):
     """The places that the roads lead to, one behind the other, from a place; None if they do not."""
     come_to = []

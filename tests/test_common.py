@@ -6,6 +6,7 @@ import unittest
 
 from calls import CALLS, WRONG, error_of
 from roundpost.alike import are_alike, count_alike, exchanges_hold, order_ring_holds
+from roundpost.best import least_slowest, slow_holds
 from roundpost.errors import BadPieces, BadPlace, BadRows, BadWeb, BadWeek
 from roundpost.news import days, never_holds, trail_holds
 from roundpost.returns import tree_sum
@@ -73,6 +74,7 @@ class EveryFunction(unittest.TestCase):
             self.assertIs(trail_holds(T, WEEK, "a", (1, 0), thing), False)
             self.assertIs(never_holds(APART, ((),), "a", "b", thing), False)
             self.assertIs(order_ring_holds(PARALLEL, [("p", "q"), ("q", "p")], thing), False)
+            self.assertIs(slow_holds(T, 0, thing), False)
             if not isinstance(thing, list) or thing:
                 self.assertIs(exchanges_hold(ALONE, (), (), thing), False)
         for web in [T, APART, PARALLEL]:
@@ -87,6 +89,7 @@ class EveryFunction(unittest.TestCase):
         for result in [
             distance(T, "a", "a"), distance(T, "a", "b"), longest_way(PARALLEL)[0], days(T, WEEK, "a", "a"),
             days(T, WEEK, "a", "b"), *ranks(PARALLEL, ("q", "p")), tree_sum(ALONE), count_alike(ALONE, ()),
+            least_slowest(ALONE), least_slowest(PARALLEL),
         ]:
             self.assertIs(type(result), int)
         self.assertIs(type(are_alike(ALONE, (), ())), bool)

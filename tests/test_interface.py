@@ -37,6 +37,25 @@ FUNCTIONS = {
         "order_ring": ["web", "orders"], "order_ring_holds": ["web", "orders", "thing"],
         "swap_days": ["web", "rota", "index"],
     },
+    "best": {
+        "best_from": ["web", "place"], "best_home": ["web", "place"], "best_tree_rota": ["web"],
+        "least_slowest": ["web"], "slow_paper": ["web", "days"], "slow_holds": ["web", "days", "thing"],
+        "kept_best": ["web", "rota"], "target_rota": ["web", "table"], "table_fault": ["web", "table"],
+    },
+    "denials": {
+        "beliefs": ["web", "week", "place", "moment", "other", "later"],
+        "last_belief": ["web", "week", "place", "moment", "other", "later"],
+        "lags": ["web", "rota", "place", "moment", "later"], "same_days": ["web", "rota", "place"],
+    },
+    "knowing": {
+        "known_at": ["web", "week", "moment"], "all_known": ["web", "week"], "lessons": ["web", "week", "count"],
+        "idle_walks": ["web", "week", "count"], "needed_roads": ["web", "rota"],
+    },
+    "snow": {
+        "snow_arrivals": ["web", "week", "place", "moment", "snow"],
+        "snow_days": ["web", "rota", "place", "other", "snow"],
+        "worst_snow": ["web", "rota", "place", "other", "count"],
+    },
 }
 
 

@@ -38,9 +38,10 @@ class Ranks(unittest.TestCase):
 
     def test_wrong_ranks(self):
         for thing in odd_things() + [
-            [0, 1, 2, 3], (0, 1, 2), (0, 1, 2, 3, 4), (0, 1, 2, 3, 3), (0, 1, 2, 2), (1, 2, 3, 4), (-1, 0, 1, 2), (False, True, 2, 3),
-            (0, True, 2, 3), (False, 1, 2, 3), (0, 1, 2, "3"), (0, 1, 2, None), (0, 1, 2, (3,)), ("r", "s", "t", "u"),
-            ((0, 1, 2, 3),), "0123", (0, 1, 2, Touchy()), range(4), (3, 3, 3, 3), (0, 1, 2, 10 ** 59), (),
+            [0, 1, 2, 3], (0, 1, 2), (0, 1, 2, 3, 4), (0, 1, 2, 3, 3), (0, 1, 2, 2), (1, 2, 3, 4), (-1, 0, 1, 2),
+            (False, True, 2, 3), (0, True, 2, 3), (False, 1, 2, 3), (0, 1, 2, "3"), (0, 1, 2, None), (0, 1, 2, (3,)),
+            ("r", "s", "t", "u"), ((0, 1, 2, 3),), "0123", (0, 1, 2, Touchy()), range(4), (3, 3, 3, 3),
+            (0, 1, 2, 10 ** 59), (),
         ]:
             self.assertRaises(BadRanks, rota_of, T, thing)
         self.assertRaises(BadRanks, rota_of, ALONE, (0,))

@@ -1,0 +1,84 @@
+"""Walks that fall out: when news comes in snow, and the snow that makes it latest."""
+
+from itertools import combinations
+from math import comb
+
+from roundpost.counts import is_count, need_count
+from roundpost.errors import BadPlace, BadSnow, TooMany
+from roundpost.rotas import need_rota
+from roundpost.spread import days_from, listed, spread
+from roundpost.webs import ends_of, need_place, need_web
+from roundpost.weeks import need_moment, need_week
+
+MOST_FALLEN = 8
+LAST_SNOW_DAY = 1000
+MOST_COUNT = 3
+MOST_CHOICES = 10000
+
+
+def is_fallen_walk(ends, thing):
+    """Whether it is a tuple of a day and a road."""
+    if not isinstance(thing, tuple) or len(thing) != 2:
+        return False
+    day, name = thing
+    return is_count(day, 1, LAST_SNOW_DAY) and isinstance(name, str) and name in ends
+
+
+def is_snow(web, thing):
+    """Whether it is a tuple of at most eight days and roads, none twice."""
+    if not isinstance(thing, tuple) or len(thing) > MOST_FALLEN:
+        return False
+    ends = ends_of(web)
+    return all([is_fallen_walk(ends, walk) for walk in thing]) and len(set(thing)) == len(thing)
+
+
+def need_snow(web, snow):
+    """Raises BadSnow for what is no snow of the web."""
+    if not is_snow(web, snow):
+        raise BadSnow("this is no snow of the web")
+
+
+def snow_arrivals(web, week, place, moment, snow):
+    """The list of the moments from which on the news is at each place in snow, None where it never comes."""
+    need_web(web)
+    need_week(web, week)
+    need_place(web, place)
+    need_moment(week, moment)
+    need_snow(web, snow)
+    return listed(web, spread(web, week, place, moment, snow))
+
+
+def snow_days(web, rota, place, other, snow):
+    """The day on which news of the dawn comes to the other place in snow, 0 for the same place, None for never."""
+    need_web(web)
+    need_rota(web, rota)
+    need_place(web, place)
+    need_place(web, other)
+    need_snow(web, snow)
+    return days_from(web, (rota,), place, snow)[web[0].index(other)]
+
+
+def worst_snow(web, rota, place, other, count):
+    """The greatest day that so many walks falling out can make, and the first snow that makes it."""
+    need_web(web)
+    need_rota(web, rota)
+    need_place(web, place)
+    need_place(web, other)
+    if place == other:
+        raise BadPlace("these are not two places")
+    need_count(count, 0, MOST_COUNT)
+    goal = web[0].index(other)
+    first = days_from(web, (rota,), place)[goal]
+    if first is None:
+        return None, ()
+    walks = [(day, name) for day in range(1, first + count + 1) for name in sorted(rota)]
+    choices = comb(len(walks), count)
+    if choices > MOST_CHOICES:
+        raise TooMany(f"there are {choices} choices of walks")
+    worst = (0, ())
+    # The choices come in their sequence, so the first with the greatest day is kept.
+    for snow in combinations(walks, count):
+        day = days_from(web, (rota,), place, snow)[goal]
+        if day > worst[0]:
+            worst = (day, snow)
+    return worst
