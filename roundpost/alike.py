@@ -3,7 +3,7 @@
 from roundpost.counts import is_count
 from roundpost.errors import BadOrders
 from roundpost.rotas import need_index, need_rota, swapped
-from roundpost.spread import table_of
+from roundpost.tables import table_of
 from roundpost.webs import are_unlike_roads, ends_of, need_web, roads_at
 
 
@@ -79,6 +79,25 @@ def count_alike(web, rota):
                     longer[bits | 1 << at] = longer.get(bits | 1 << at, 0) + many
         counts = longer
     return sum(list(counts.values()))
+
+
+def unlike_rotas(web):
+    """The list of the first rotas of all that are alike, by the numbers of the roads."""
+    roads = web[1]
+    apart = []
+    for _, near, far in roads:
+        free = [at for at, (_, one, two) in enumerate(roads) if near not in (one, two) and far not in (one, two)]
+        apart.append(sum([1 << at for at in free]))
+    # With each beginning of a rota go, by bits, its roads, and those that could stand ahead of a later number in it.
+    found = [((), 0, 0)]
+    for _ in roads:
+        longer = []
+        for names, used, barred in found:
+            for at, road in enumerate(roads):
+                if (used | barred) >> at & 1 == 0:
+                    longer.append(((*names, road[0]), used | 1 << at, apart[at] & (barred | (1 << at) - 1)))
+        found = longer
+    return [names for names, _, _ in found]
 
 
 def exchanges(web, rota, other):

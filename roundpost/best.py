@@ -6,10 +6,11 @@ from roundpost.alike import rota_for
 from roundpost.counts import is_whole, need_count
 from roundpost.errors import BadTable, TooMany
 from roundpost.rotas import need_rota, swapped
-from roundpost.spread import slowest_in, table_of, told
+from roundpost.spread import told
+from roundpost.tables import slowest_in, table_of
 from roundpost.webs import (
-    ends_of, is_tree, longest_way, need_one_piece, need_place, need_tree, pieces, places_along, roads_at, steps_from,
-    way_of, without_road,
+    ends_of, first_way, is_tree, longest_way, need_one_piece, need_place, need_tree, pieces_of, places_along, roads_at,
+    steps_from, without_road,
 )
 
 MOST_TRIED_ROADS = 6
@@ -33,13 +34,13 @@ def best_home(web, place):
 def goes_out(left, known, place):
     """Whether the roads left can bring the news of the place everywhere on the same day."""
     # Walked outwards, they bring it through each of their pieces in which somebody knows it.
-    return all([any([place in known[one] for one in piece]) for piece in pieces(left)])
+    return all([any([place in known[one] for one in piece]) for piece in pieces_of(left)])
 
 
 def comes_home(left, known, place):
     """Whether the roads left can bring all news to the place on the same day."""
     # Walked inwards, they bring home what is known in the place's piece.
-    homes = [piece for piece in pieces(left) if place in piece]
+    homes = [piece for piece in pieces_of(left) if place in piece]
     return all([any([other in known[one] for one in homes[0]]) for other in left[0]])
 
 
@@ -74,7 +75,7 @@ def best_tree_rota(web):
     """A rota of a tree with the least slowest days."""
     need_tree(web)
     greatest, place, other = longest_way(web)
-    along = [place] + places_along(ends_of(web), way_of(web, place, other), place)
+    along = [place] + places_along(ends_of(web), first_way(web, place, other), place)
     near = steps_from(web, along[greatest // 2])
     far = steps_from(web, along[(greatest + 1) // 2])
     odd, even = [], []
@@ -184,7 +185,7 @@ def is_wrong(web, table, place, other):
         return True
     if place == other:
         return there != 0
-    way = way_of(web, place, other)
+    way = first_way(web, place, other)
     along = [place] + places_along(ends_of(web), way, place)
     falls = len([at for at in range(len(way) - 1) if is_fall(web, table, along[at], along[at + 2])])
     return there + back != len(way) + 1 or there != falls + 1

@@ -3,7 +3,8 @@
 from roundpost.counts import need_count
 from roundpost.errors import TooMany
 from roundpost.rotas import need_rota
-from roundpost.spread import spread, table_of, told
+from roundpost.spread import spread, told
+from roundpost.tables import table_of
 from roundpost.webs import ends_of, need_web, without_road
 from roundpost.weeks import need_moment, need_week, round_of
 

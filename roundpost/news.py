@@ -2,7 +2,8 @@
 
 from roundpost.counts import is_whole
 from roundpost.errors import BadTrail
-from roundpost.spread import days_from, listed, reached, slowest_in, spread, table_of, walked_web
+from roundpost.spread import days_from, listed, reached, spread, walked_web
+from roundpost.tables import slowest_in, table_of
 from roundpost.webs import ends_of, need_place, need_web, places_along, roads_at
 from roundpost.weeks import need_moment, need_week, next_walk, round_of
 

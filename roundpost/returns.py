@@ -2,7 +2,8 @@
 
 from roundpost.errors import BadWay
 from roundpost.rotas import need_rota
-from roundpost.spread import spread, table_of
+from roundpost.spread import spread
+from roundpost.tables import table_of
 from roundpost.webs import distance, ends_of, need_one_piece, need_place, need_web, places_along, steps_from
 from roundpost.weeks import need_moment, need_week
 

@@ -20,16 +20,21 @@ def spread(web, week, place, moment, fallen=()):
 
     The walks in fallen, each as (day, road), are left out.
     """
-    many = len(reached(web, week, place))
     ends = ends_of(web)
     known = {place: moment}
     day, start = moment
-    while len(known) < many:
+    idle = 0
+    # The first day may have begun, so it takes one day more than there are rounds to see each of them whole.
+    while len(known) < len(web[0]) and idle <= len(week):
+        idle = idle + 1
         names = round_of(week, day)
         for index in range(start, len(names)):
             near, far = ends[names[index]]
-            if (near in known) != (far in known) and (day, names[index]) not in fallen:
-                known[far if near in known else near] = (day, index + 1)
+            if (near in known) != (far in known):
+                # What would have come, but for a walk that falls out, may still come.
+                idle = 0
+                if (day, names[index]) not in fallen:
+                    known[far if near in known else near] = (day, index + 1)
         day, start = day + 1, 0
     return known
 
@@ -46,24 +51,6 @@ def days_from(web, week, place, fallen=()):
     # Where it sets out it need not come: that day is told as 0.
     come[place] = 0
     return listed(web, come)
-
-
-def table_of(web, week):
-    """The list of the lists of all days, from each place in turn to each."""
-    return [days_from(web, week, place) for place in web[0]]
-
-
-def slowest_in(web, table):
-    """The greatest entry of a table of days, None if it is there, and the first two places that have it."""
-    places = web[0]
-    found = (0, places[0], places[0])
-    for place, row in zip(places, table):
-        for other, day in zip(places, row):
-            if day is None:
-                return None, place, other
-            if day > found[0]:
-                found = (day, place, other)
-    return found
 
 
 def told(known, near, far):

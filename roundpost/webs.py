@@ -5,15 +5,13 @@ from roundpost.errors import BadPieces, BadPlace, BadTree, BadWeb
 MOST_SIGNS = 8
 MOST_PLACES = 10
 MOST_ROADS = 14
-LETTERS = "abcdefghijklmnopqrstuvwxyz"
-SIGNS = "abcdefghijklmnopqrstuvwxyz0123456789"
 
 
 def is_name(thing):
     """Whether it is a name, of a place or of a road."""
     if not isinstance(thing, str) or not 1 <= len(thing) <= MOST_SIGNS:
         return False
-    return thing[0] in LETTERS and all([sign in SIGNS for sign in thing])
+    return thing.isascii() and thing.isalnum() and thing.islower() and thing[0].isalpha()
 
 
 def are_places(thing):
@@ -65,7 +63,8 @@ def need_place(web, place):
 
 def need_one_piece(web):
     """Raises BadWeb for what is no web, BadPieces for a web of several pieces."""
-    if len(pieces(web)) != 1:
+    need_web(web)
+    if not has_one_piece(web):
         raise BadPieces("this web has several pieces")
 
 
@@ -107,19 +106,34 @@ def roads_at(web, place):
     return found
 
 
+def beside(web):
+    """The dict of the list, for each place, of (road, place at its other end) of the roads at it."""
+    found = {place: [] for place in web[0]}
+    for name, near, far in web[1]:
+        found[near].append((name, far))
+        found[far].append((name, near))
+    return found
+
+
 def steps_from(web, place):
     """The dict of the distances of all places that a way joins with this one."""
+    roads = beside(web)
     steps = {place: 0}
     border = [place]
     while border:
         beyond = []
         for here in border:
-            for _, there in roads_at(web, here):
+            for _, there in roads[here]:
                 if there not in steps:
                     steps[there] = steps[here] + 1
                     beyond.append(there)
         border = beyond
     return steps
+
+
+def has_one_piece(web):
+    """Whether ways join all places of a web."""
+    return len(steps_from(web, web[0][0])) == len(web[0])
 
 
 def places_along(ends, names, start):
@@ -148,14 +162,20 @@ def way_of(web, place, other):
     need_web(web)
     need_place(web, place)
     need_place(web, other)
+    return first_way(web, place, other)
+
+
+def first_way(web, place, other):
+    """What way_of returns, of a web and places of it."""
     left = steps_from(web, other)
     if place not in left:
         return None
+    roads = beside(web)
     way = []
     here = place
     while here != other:
         # All shortest ways are equally long, so the first of them begins with the first road that is on one.
-        nearer = [step for step in roads_at(web, here) if left[step[1]] < left[here]]
+        nearer = [step for step in roads[here] if left[step[1]] < left[here]]
         name, here = nearer[0]
         way.append(name)
     return tuple(way)
@@ -164,12 +184,22 @@ def way_of(web, place, other):
 def pieces(web):
     """The ascending list of the pieces, each the ascending tuple of its places."""
     need_web(web)
-    return sorted({tuple(sorted(steps_from(web, place))) for place in web[0]})
+    return pieces_of(web)
+
+
+def pieces_of(web):
+    """What pieces returns, also of what has no places at all."""
+    found = []
+    for place in web[0]:
+        if not any([place in piece for piece in found]):
+            found.append(tuple(sorted(steps_from(web, place))))
+    return sorted(found)
 
 
 def is_tree(web):
     """Whether a web has one piece and one road fewer than places."""
-    return len(pieces(web)) == 1 and len(web[1]) == len(web[0]) - 1
+    need_web(web)
+    return len(web[1]) == len(web[0]) - 1 and has_one_piece(web)
 
 
 def longest_way(web):
@@ -190,7 +220,7 @@ def ring_of(web):
     need_web(web)
     for name, near, far in web[1]:
         # A shortest way comes to no place twice, so it makes a ring with the road that it does not use.
-        back = way_of(without_road(web, name), far, near)
+        back = first_way(without_road(web, name), far, near)
         if back is not None:
             return (name,) + back
     return None

@@ -7,21 +7,27 @@ from roundpost.alike import (
 from roundpost.best import (
     best_from, best_home, best_tree_rota, kept_best, least_slowest, slow_holds, slow_paper, table_fault, target_rota,
 )
+from roundpost.demands import (
+    best_cost, best_for, cheaper_swap, cost_of, demand_ring, demand_ring_holds, pair_bound, place_best, turn_weights,
+)
 from roundpost.denials import beliefs, lags, last_belief, same_days
 from roundpost.errors import (
-    BadCount, BadIndex, BadMoment, BadOrders, BadPlace, BadRanks, BadRota, BadRows, BadSnow, BadTable, BadTrail, BadWay,
-    BadWeb, BadWeek,
+    BadChain, BadCount, BadDay, BadDemands, BadIndex, BadMoment, BadOrders, BadPlace, BadRanks, BadReports, BadRing,
+    BadRota, BadRotas, BadRows, BadScript, BadSnow, BadTable, BadTrail, BadWay, BadWeb, BadWeek,
 )
 from roundpost.knowing import all_known, idle_walks, known_at, lessons, needed_roads
 from roundpost.news import (
     arrivals, day_table, days, never_holds, never_paper, slowest, trail, trail_end, trail_holds,
 )
+from roundpost.reports import best_question, fault_of, fits, fitting_rotas, parting_pair, sure_orders
 from roundpost.returns import all_days, answer_moment, saved, there_and_back, tree_sum, turns, way_days
+from roundpost.rings import chain_answer_day, chain_back_day, chain_day, lap, reached_on, ring_back_day, ring_day
 from roundpost.rotas import backwards, ranks, rota_of, turned_rota, walks_between
+from roundpost.scripts import open_questions, run_script, standing
 from roundpost.snow import snow_arrivals, snow_days, worst_snow
 from roundpost.texts import read_web, write_web
 from roundpost.webs import distance, is_tree, is_web, longest_way, pieces, ring_holds, ring_of, way_of
-from samples import PARALLEL, RING_AND_PIECE, T, T_TEXT, TRIANGLE, Touchy
+from samples import PARALLEL, RING_AND_PIECE, STAR, T, T_TEXT, TRIANGLE, Touchy
 
 ROTA = ("r", "s", "t", "u")
 OTHER = ("t", "r", "s", "u")
@@ -30,6 +36,14 @@ ORDERS = [("r",), ("r", "s"), ("s", "t", "u"), ("t",), ("u",)]
 RING_ORDERS = [("q", "p"), ("p", "q")]
 TABLE = [[0, 1, 1, 1, 1], [1, 0, 1, 1, 1], [2, 1, 0, 1, 1], [3, 2, 1, 0, 1], [3, 2, 1, 2, 0]]
 SNOW = ((2, "s"), (1, "s"), (1, "r"))
+RING = ("y", "z", "x")
+REPORTS = (("a", "e", 1), ("e", "a", 3), ("d", "d", 0), ("a", "e", 1))
+SCRIPT = (
+    ("tell", (1, 0), "a", "one"), ("tell", (1, 1), "e", "two"), ("deny", (1, 1), "b", "one"),
+    ("ask", (1, 2), "d", "a", "who"), ("ask", (5, 2), "a", "b", "why"),
+)
+DEMANDS = (("a", "e", 5), ("e", "d", 3), ("d", "e", 4), ("e", "a", 2))
+RING_DEMANDS = (("m", "d", 1), ("d", "c", 5), ("c", "b", 5), ("b", "d", 5), ("c", "d", 2))
 
 # All arguments but those of the first few are of T, and the counts in them are right for what is wrong below.
 CALLS = [
@@ -110,16 +124,49 @@ CALLS = [
     (snow_arrivals, {"web": T, "week": WEEK, "place": "a", "moment": (1, 0), "snow": SNOW}),
     (snow_days, {"web": T, "rota": ROTA, "place": "a", "other": "e", "snow": SNOW}),
     (worst_snow, {"web": T, "rota": ROTA, "place": "a", "other": "e", "count": 1}),
+    (lap, {"web": TRIANGLE, "rota": ("x", "y", "z"), "ring": RING}),
+    (ring_day, {"web": TRIANGLE, "rota": ("x", "y", "z"), "ring": RING, "count": 10 ** 15}),
+    (ring_back_day, {"web": TRIANGLE, "rota": ("x", "y", "z"), "ring": RING, "count": 7}),
+    (chain_day, {"chain": (0, 2, 1), "copies": 2}),
+    (chain_back_day, {"chain": (0, 2, 1), "copies": 2}),
+    (chain_answer_day, {"chain": (0, 2, 1), "copies": 2}),
+    (reached_on, {"chain": (0, 2, 1), "copies": 2, "day": 2}),
+    (fitting_rotas, {"web": T, "reports": REPORTS[2:]}),
+    (fits, {"web": T, "rota": ROTA, "reports": REPORTS}),
+    (sure_orders, {"web": T, "reports": REPORTS}),
+    (sure_orders, {"web": T, "reports": REPORTS + (("a", "e", 2),)}),
+    (parting_pair, {"web": T, "rota": ROTA, "other": ("t", "s", "r", "u")}),
+    (parting_pair, {"web": T, "rota": ROTA, "other": ROTA}),
+    (best_question, {"web": T, "rotas": [ROTA, OTHER, ROTA]}),
+    (best_question, {"web": T, "rotas": (ROTA, OTHER)}),
+    (fault_of, {"web": T, "reports": REPORTS + (("a", "e", 2),)}),
+    (fault_of, {"web": T, "reports": REPORTS}),
+    (run_script, {"web": T, "week": WEEK, "script": SCRIPT, "count": 9}),
+    (standing, {"web": T, "week": WEEK, "script": SCRIPT, "count": 2}),
+    (open_questions, {"web": T, "week": WEEK, "script": SCRIPT, "count": 2}),
+    (cost_of, {"web": T, "rota": ROTA, "demands": DEMANDS}),
+    (turn_weights, {"web": T, "demands": DEMANDS}),
+    (place_best, {"web": T, "demands": DEMANDS, "place": "c"}),
+    (best_cost, {"web": T, "demands": DEMANDS}),
+    (best_for, {"web": T, "demands": DEMANDS}),
+    (pair_bound, {"web": T, "demands": DEMANDS}),
+    (demand_ring, {"web": T, "demands": DEMANDS, "place": "c"}),
+    (demand_ring, {"web": STAR, "demands": RING_DEMANDS, "place": "m"}),
+    (demand_ring_holds, {"web": STAR, "demands": RING_DEMANDS, "place": "m", "thing": ("q", "s", "o")}),
+    (demand_ring_holds, {"web": T, "demands": DEMANDS, "place": "c", "thing": ["s", ["t"], "u"]}),
+    (cheaper_swap, {"web": T, "rota": ROTA, "demands": DEMANDS}),
 ]
 
 ERRORS = {
     "web": BadWeb, "place": BadPlace, "other": BadPlace, "rota": BadRota, "week": BadWeek, "moment": BadMoment,
     "ranks": BadRanks, "count": BadCount, "way": BadWay, "orders": BadOrders, "index": BadIndex, "trail": BadTrail,
-    "text": BadRows, "days": BadCount, "table": BadTable, "later": BadMoment, "snow": BadSnow,
+    "text": BadRows, "days": BadCount, "table": BadTable, "later": BadMoment, "snow": BadSnow, "ring": BadRing,
+    "chain": BadChain, "copies": BadCount, "day": BadDay, "reports": BadReports, "rotas": BadRotas,
+    "script": BadScript, "demands": BadDemands,
 }
 OTHER_ERRORS = {
     (walks_between, "other"): BadMoment, (are_alike, "other"): BadRota, (exchanges, "other"): BadRota,
-    (exchanges_hold, "other"): BadRota,
+    (exchanges_hold, "other"): BadRota, (parting_pair, "other"): BadRota,
 }
 
 # What is wrong of each kind with T and the weeks above.
@@ -147,7 +194,7 @@ WRONG = {
         [0, 1, 2, 3], (0, 1, 2), (0, 1, 2, 3, 4), (1, 2, 3, 4), (0, 1, 2, 2), (0, True, 2, 3), (False, 1, 2, 3), ROTA,
         (0, 1, 2, None), (0, 1, 2, (3,)), ((0, 1, 2, 3),), (-1, 0, 1, 2), "0123", (0, 1, 2, Touchy()), (),
     ],
-    BadCount: [-1, 1000, 10 ** 59, -10 ** 59, "0", (0,), [0], Touchy()],
+    BadCount: [-1, 10 ** 15 + 1, 10 ** 59, -10 ** 59, "0", (0,), [0], Touchy()],
     BadWay: [["u", "s"], ("u", "r"), ("r", "s", "r"), ("v",), ("a",), (None,), (("r",),), "rs", (True,), (Touchy(),)],
     BadOrders: [
         tuple(ORDERS), ORDERS[:4], ORDERS + [()], [list(one) for one in ORDERS], ORDERS[::-1], [()] * 5,
@@ -169,6 +216,37 @@ WRONG = {
         list(SNOW), ([1, "r"],), ((1, "r"), (1, "r")), ((0, "r"),), ((1001, "r"),), ((1, "v"),), ((1, "a"),), (1, "r"),
         ((True, "r"),), ((None, "r"),), ((1, None),), (("r", 1),), ((1,),), ((1, "r", 0),), ((1, Touchy()),),
         ((Touchy(), "r"),), tuple((day, "r") for day in range(1, 10)), ((10 ** 59, "r"),), ((-1, "r"),), {(1, "r")},
+    ],
+    BadChain: [
+        [0, 2, 1], (0,), (0, 2, 0), tuple(range(13)), (0, True), (0, None), (0, "1"), (0, (1,)), ((0, 1),), {0: 1},
+        (0, Touchy()), "012", (True, False), range(3),
+    ],
+    BadDay: [-1, 10 ** 18 + 1, 10 ** 59, -10 ** 59, "1", (1,), [1], Touchy()],
+    BadReports: [
+        list(REPORTS), (["a", "e", 1],), ("a", "e", 1), (("a", "e"),), (("a", "e", 1, 1),), (("a", "f", 1),),
+        (("f", "a", 1),), (("a", "e", -1),), (("a", "e", 101),), (("a", "e", True),), (("a", "e", None),),
+        (("a", None, 1),), (("a", "e", "1"),), ((Touchy(), "e", 1),), (("a", "e", Touchy()),), REPORTS * 8,
+        {REPORTS[0]}, (("a", "e", (1,)),), REPORTS[:1] + (None,),
+    ],
+    BadRotas: [
+        [ROTA], (ROTA,), [], (), ROTA, {ROTA: 1, OTHER: 1}, {ROTA, OTHER}, [ROTA, list(OTHER)], [ROTA, ROTA[1:]],
+        [ROTA, ROTA + ("r",)], [ROTA, None], (ROTA, ()), (ROTA, ("r", "s", "t", "t")), [ROTA, Touchy()], "rs",
+        [ROTA, OTHER, True], [[ROTA, OTHER], [ROTA, OTHER]],
+    ],
+    BadScript: [
+        list(SCRIPT), [SCRIPT[0]], (list(SCRIPT[0]),), SCRIPT[0], SCRIPT[::-1], SCRIPT[2:], SCRIPT[:1] * 2, (None,),
+        (("tell", (1, 0), "a"),), (("tell", (1, 0), "a", "b", "one"),), (("tell", [1, 0], "a", "one"),), (Touchy(),),
+        (("ask", (1, 0), "a", "who"),), (("ask", (1, 0), "a", "a", "who"),), SCRIPT[3:4] * 2, (("ask",),), ((),),
+        (("tell", (1, 3), "a", "one"),), (("tell", (1, 0), "f", "one"),), (("tell", (1, 0), "a", "One"),),
+        (("told", (1, 0), "a", "one"),), (("tell", (1, 0), "a", None),), ((None, (1, 0), "a", "one"),),
+        SCRIPT + (("deny", (6, 0), "b", "one"),), SCRIPT + (("ask", (6, 0), "a", "b", "one"),),
+        SCRIPT + (("tell", (6, 0), "a", "who"),), SCRIPT + (("deny", (6, 0), "a", "who"),),
+    ],
+    BadDemands: [
+        list(DEMANDS), (list(DEMANDS[0]),), DEMANDS[0], DEMANDS + DEMANDS[:1], (("a", "a", 1),), (("a", "f", 1),),
+        (("a", "e", 0),), (("a", "e", 10 ** 6 + 1),), (("a", "e", True),), (("a", "e", None),), (("a", "e"),),
+        (("a", "e", 1, 1),), (("a", "e", "1"),), (("a", None, 1),), ((Touchy(), "e", 1),), (("a", "e", Touchy()),),
+        (("a", "e", 1), ("a", "e", 2)), {DEMANDS[0]}, (None,), (("a", "e", -1),),
     ],
     BadRows: ["", "place", "a", T_TEXT + "\n", " " + T_TEXT, T_TEXT[1:]],
 }

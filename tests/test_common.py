@@ -7,7 +7,7 @@ import unittest
 from calls import CALLS, WRONG, error_of
 from roundpost.alike import are_alike, count_alike, exchanges_hold, order_ring_holds
 from roundpost.best import least_slowest, slow_holds
-from roundpost.errors import BadPieces, BadPlace, BadRows, BadWeb, BadWeek
+from roundpost.errors import BadChain, BadPieces, BadPlace, BadRows, BadWeb, BadWeek
 from roundpost.news import days, never_holds, trail_holds
 from roundpost.returns import tree_sum
 from roundpost.rotas import ranks
@@ -105,7 +105,9 @@ class WrongArguments(unittest.TestCase):
         """Objects that are wrong where this error is raised."""
         whole = [thing for thing in odd_things() if isinstance(thing, int) and not isinstance(thing, bool)]
         found = [thing for thing in odd_things() if not any(thing is one for one in whole)]
-        return found + (WRONG[error] if arguments["web"] == T or error is BadWeb else [])
+        if error is BadChain:
+            found = [thing for thing in found if repr(thing) != "(0, 1)"]
+        return found + (WRONG[error] if arguments.get("web", T) == T or error is BadWeb else [])
 
     def test_each_wrong_argument_raises_its_error(self):
         for call, arguments in CALLS:

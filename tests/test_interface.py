@@ -56,6 +56,26 @@ FUNCTIONS = {
         "snow_days": ["web", "rota", "place", "other", "snow"],
         "worst_snow": ["web", "rota", "place", "other", "count"],
     },
+    "rings": {
+        "lap": ["web", "rota", "ring"], "ring_day": ["web", "rota", "ring", "count"],
+        "ring_back_day": ["web", "rota", "ring", "count"], "chain_day": ["chain", "copies"],
+        "chain_back_day": ["chain", "copies"], "chain_answer_day": ["chain", "copies"],
+        "reached_on": ["chain", "copies", "day"],
+    },
+    "reports": {
+        "fitting_rotas": ["web", "reports"], "fits": ["web", "rota", "reports"], "sure_orders": ["web", "reports"],
+        "parting_pair": ["web", "rota", "other"], "best_question": ["web", "rotas"], "fault_of": ["web", "reports"],
+    },
+    "scripts": {
+        "run_script": ["web", "week", "script", "count"], "standing": ["web", "week", "script", "count"],
+        "open_questions": ["web", "week", "script", "count"],
+    },
+    "demands": {
+        "cost_of": ["web", "rota", "demands"], "turn_weights": ["web", "demands"],
+        "place_best": ["web", "demands", "place"], "best_cost": ["web", "demands"], "best_for": ["web", "demands"],
+        "pair_bound": ["web", "demands"], "demand_ring": ["web", "demands", "place"],
+        "demand_ring_holds": ["web", "demands", "place", "thing"], "cheaper_swap": ["web", "rota", "demands"],
+    },
 }
 
 

@@ -1,0 +1,74 @@
+"""Tables of days: what each place knows at the end of each day, and the days on which it came to know it.
+
+Places are told by their numbers, sets of places by a bit for each.
+"""
+
+
+def numbered_rounds(web, week):
+    """The list, for each round, of the list of the (number, number) of the places of each of its roads."""
+    numbers = {place: at for at, place in enumerate(web[0])}
+    ends = {name: (numbers[near], numbers[far]) for name, near, far in web[1]}
+    return [[ends[name] for name in names] for names in week]
+
+
+def known_each_day(rounds, many):
+    """The list of the lists of what so many places know at the end of each day, the dawn of day 1 first.
+
+    It ends where nothing more is learned.
+    """
+    known = [1 << at for at in range(many)]
+    found = [known]
+    idle = 0
+    while idle < len(rounds):
+        known = known_behind(rounds[(len(found) - 1) % len(rounds)], known)
+        idle = idle + 1 if known == found[-1] else 0
+        found.append(known)
+    return found
+
+
+def known_behind(ends, known):
+    """What the places know behind the walks of roads with these ends."""
+    after = list(known)
+    for near, far in ends:
+        if after[near] != after[far]:
+            both = after[near] | after[far]
+            after[near] = both
+            after[far] = both
+    return after
+
+
+def is_day_in(known, start, goal, day):
+    """Whether news of the first place comes to the other on this day, by what is known each day."""
+    if day >= len(known) or known[day][goal] >> start & 1 == 0:
+        return False
+    return day == 0 or known[day - 1][goal] >> start & 1 == 0
+
+
+def table_of(web, week):
+    """The list of the lists of all days, from each place in turn to each."""
+    many = len(web[0])
+    known = known_each_day(numbered_rounds(web, week), many)
+    table = [[None] * many for _ in range(many)]
+    for at in range(many):
+        table[at][at] = 0
+    for day in range(1, len(known)):
+        for goal in range(many):
+            learned = known[day][goal] & ~known[day - 1][goal]
+            if learned:
+                for start in range(many):
+                    if learned >> start & 1:
+                        table[start][goal] = day
+    return table
+
+
+def slowest_in(web, table):
+    """The greatest entry of a table of days, None if it is there, and the first two places that have it."""
+    places = web[0]
+    found = (0, places[0], places[0])
+    for place, row in zip(places, table):
+        for other, day in zip(places, row):
+            if day is None:
+                return None, place, other
+            if day > found[0]:
+                found = (day, place, other)
+    return found
