@@ -1,6 +1,6 @@
 """Webs of places and roads: what they are, their ways, their pieces and their rings."""
 
-from roundpost.errors import BadPieces, BadPlace, BadTree, BadWeb
+from roundpost.errors import BadPieces, BadPlace, BadRoad, BadTree, BadWeb
 
 MOST_SIGNS = 8
 MOST_PLACES = 10
@@ -59,6 +59,12 @@ def need_place(web, place):
     """Raises BadPlace for what is no place of the web."""
     if not isinstance(place, str) or place not in web[0]:
         raise BadPlace("this is no place of the web")
+
+
+def need_road(web, road):
+    """Raises BadRoad for what is no name of a road of the web."""
+    if not isinstance(road, str) or road not in [name for name, _, _ in web[1]]:
+        raise BadRoad("this is no road of the web")
 
 
 def need_one_piece(web):

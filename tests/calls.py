@@ -12,10 +12,15 @@ from roundpost.demands import (
 )
 from roundpost.denials import beliefs, lags, last_belief, same_days
 from roundpost.errors import (
-    BadChain, BadCount, BadDay, BadDemands, BadIndex, BadMoment, BadOrders, BadPlace, BadRanks, BadReports, BadRing,
-    BadRota, BadRotas, BadRows, BadScript, BadSnow, BadTable, BadTrail, BadWay, BadWeb, BadWeek,
+    BadChain, BadCount, BadDay, BadDemands, BadIndex, BadJoin, BadMoment, BadOrders, BadPlace, BadRanks, BadReports,
+    BadRing, BadRoad, BadRota, BadRotas, BadRows, BadScript, BadSnow, BadTable, BadTrail, BadTurns, BadWay, BadWeb,
+    BadWeek,
 )
+from roundpost.joints import across_days, block_ends, blocks, cut_places, joined_web, woven_rota
 from roundpost.knowing import all_known, idle_walks, known_at, lessons, needed_roads
+from roundpost.letters import (
+    carried, come_home, heaviest, last_letter, letter_days, lightest_peak, road_letters, still_out,
+)
 from roundpost.news import (
     arrivals, day_table, days, never_holds, never_paper, slowest, trail, trail_end, trail_holds,
 )
@@ -43,6 +48,9 @@ SCRIPT = (
     ("ask", (1, 2), "d", "a", "who"), ("ask", (5, 2), "a", "b", "why"),
 )
 DEMANDS = (("a", "e", 5), ("e", "d", 3), ("d", "e", 4), ("e", "a", 2))
+MORE = (("k", "c", "g"), (("v", "c", "k"), ("w", "k", "g"), ("x", "c", "g")))
+SECOND = ("x", "w", "v")
+TURNS = (0, 1, 1, 0, 0, 1, 0)
 RING_DEMANDS = (("m", "d", 1), ("d", "c", 5), ("c", "b", 5), ("b", "d", 5), ("c", "d", 2))
 
 # All arguments but those of the first few are of T, and the counts in them are right for what is wrong below.
@@ -155,6 +163,23 @@ CALLS = [
     (demand_ring_holds, {"web": STAR, "demands": RING_DEMANDS, "place": "m", "thing": ("q", "s", "o")}),
     (demand_ring_holds, {"web": T, "demands": DEMANDS, "place": "c", "thing": ["s", ["t"], "u"]}),
     (cheaper_swap, {"web": T, "rota": ROTA, "demands": DEMANDS}),
+    (cut_places, {"web": T}),
+    (blocks, {"web": RING_AND_PIECE}),
+    (block_ends, {"web": T, "road": "s"}),
+    (joined_web, {"web": T, "other": MORE, "place": "c"}),
+    (woven_rota, {"web": T, "other": MORE, "place": "c", "rota": ROTA, "second": SECOND, "turns": TURNS}),
+    (across_days, {
+        "web": T, "other": MORE, "place": "c", "rota": ROTA, "second": SECOND, "turns": TURNS, "start": "e",
+        "goal": "g",
+    }),
+    (carried, {"web": T, "rota": ROTA, "day": 2}),
+    (still_out, {"web": T, "rota": ROTA, "day": 2}),
+    (come_home, {"web": T, "rota": ROTA, "day": 2}),
+    (road_letters, {"web": T, "road": "s"}),
+    (heaviest, {"web": T, "rota": ROTA}),
+    (last_letter, {"web": T, "rota": ROTA}),
+    (letter_days, {"web": T, "rota": ROTA}),
+    (lightest_peak, {"web": T}),
 ]
 
 ERRORS = {
@@ -162,11 +187,14 @@ ERRORS = {
     "ranks": BadRanks, "count": BadCount, "way": BadWay, "orders": BadOrders, "index": BadIndex, "trail": BadTrail,
     "text": BadRows, "days": BadCount, "table": BadTable, "later": BadMoment, "snow": BadSnow, "ring": BadRing,
     "chain": BadChain, "copies": BadCount, "day": BadDay, "reports": BadReports, "rotas": BadRotas,
-    "script": BadScript, "demands": BadDemands,
+    "script": BadScript, "demands": BadDemands, "road": BadRoad, "second": BadRota, "turns": BadTurns,
+    "start": BadPlace, "goal": BadPlace,
 }
 OTHER_ERRORS = {
     (walks_between, "other"): BadMoment, (are_alike, "other"): BadRota, (exchanges, "other"): BadRota,
     (exchanges_hold, "other"): BadRota, (parting_pair, "other"): BadRota,
+    (joined_web, "other"): BadWeb, (woven_rota, "other"): BadWeb, (across_days, "other"): BadWeb,
+    (joined_web, "place"): BadJoin, (woven_rota, "place"): BadJoin, (across_days, "place"): BadJoin,
 }
 
 # What is wrong of each kind with T and the weeks above.
@@ -248,6 +276,13 @@ WRONG = {
         (("a", "e", 1, 1),), (("a", "e", "1"),), (("a", None, 1),), ((Touchy(), "e", 1),), (("a", "e", Touchy()),),
         (("a", "e", 1), ("a", "e", 2)), {DEMANDS[0]}, (None,), (("a", "e", -1),),
     ],
+    BadJoin: ["a", "b", "k", "g", "v", "r", "C", "cc", "c ", ("c",), ["c"], b"c", MORE[0], Touchy()],
+    BadTurns: [
+        list(TURNS), TURNS[1:], TURNS + (0,), TURNS + (1,), (0,) * 7, (0, True) + TURNS[2:], (False,) + TURNS[1:],
+        TURNS[:6] + (None,), TURNS[:6] + (2,), TURNS[:6] + (-1,), TURNS[:6] + ("0",), TURNS[:6] + ((0,),), "0110010",
+        (TURNS,), TURNS[:6] + (Touchy(),), (), TURNS[:6] + (1,), TURNS[:6] + (10 ** 59,),
+    ],
+    BadRoad: ["v", "a", "R", "rr", "r ", ("r",), ["r"], b"r", ROTA, Touchy()],
     BadRows: ["", "place", "a", T_TEXT + "\n", " " + T_TEXT, T_TEXT[1:]],
 }
 

@@ -76,6 +76,26 @@ FUNCTIONS = {
         "pair_bound": ["web", "demands"], "demand_ring": ["web", "demands", "place"],
         "demand_ring_holds": ["web", "demands", "place", "thing"], "cheaper_swap": ["web", "rota", "demands"],
     },
+    "joints": {
+        "cut_places": ["web"], "blocks": ["web"], "block_ends": ["web", "road"],
+        "joined_web": ["web", "other", "place"],
+        "woven_rota": ["web", "other", "place", "rota", "second", "turns"],
+        "across_days": ["web", "other", "place", "rota", "second", "turns", "start", "goal"],
+    },
+    "letters": {
+        "carried": ["web", "rota", "day"], "still_out": ["web", "rota", "day"], "come_home": ["web", "rota", "day"],
+        "road_letters": ["web", "road"], "heaviest": ["web", "rota"], "last_letter": ["web", "rota"],
+        "letter_days": ["web", "rota"], "lightest_peak": ["web"],
+    },
+}
+
+CLASSES = {
+    ("session", "Session"): {
+        "__init__": ["web", "rota"], "exchange": ["index"], "move": ["road", "index"], "close": ["road"],
+        "build": ["name", "place", "other"], "undo": [], "web": [], "rota": [], "days": ["place", "other"],
+        "slowest": [], "is_best": [], "__len__": [], "__eq__": ["other"], "copy": [],
+    },
+    ("desk", "Desk"): {"__init__": [], "say": ["row"], "session": []},
 }
 
 
@@ -95,6 +115,17 @@ class Interface(unittest.TestCase):
                     rest = found[name].args
                     self.assertEqual([one.arg for one in rest.args], parameters)
                     self.assertFalse(rest.posonlyargs or rest.kwonlyargs or rest.defaults or rest.vararg or rest.kwarg)
+
+
+    def test_methods_stand_in_their_classes(self):
+        for (module, name), methods in CLASSES.items():
+            body = ast.parse((PACKAGE / f"{module}.py").read_text()).body
+            (held,) = [node for node in body if isinstance(node, ast.ClassDef) and node.name == name]
+            found = {node.name: node.args for node in held.body if isinstance(node, ast.FunctionDef)}
+            for method, parameters in methods.items():
+                with self.subTest(name=name, method=method):
+                    self.assertEqual([one.arg for one in found[method].args], ["self"] + parameters)
+                    self.assertFalse(found[method].defaults or found[method].vararg or found[method].kwarg)
 
 
 if __name__ == "__main__":
