@@ -1,16 +1,13 @@
 """Best orders: rotas by which news is early, rotas with the least slowest days, and rotas for a table of days."""
 
-from itertools import permutations
-
-from roundpost.alike import rota_for
+from roundpost.alike import rota_for, unlike_rotas
 from roundpost.counts import is_whole, need_count
 from roundpost.errors import BadTable, TooMany
 from roundpost.rotas import need_rota, swapped
-from roundpost.spread import told
-from roundpost.tables import slowest_in, table_of
+from roundpost.tables import days_until_all, known_behind, numbered_ends, slowest_in, table_of
 from roundpost.webs import (
-    ends_of, first_way, is_tree, longest_way, need_one_piece, need_place, need_tree, pieces_of, places_along, roads_at,
-    steps_from, without_road,
+    ends_of, first_way, is_tree, longest_way, need_one_piece, need_place, need_tree, places_along, ring_of, roads_at,
+    steps_from,
 )
 
 MOST_TRIED_ROADS = 6
@@ -31,38 +28,57 @@ def best_home(web, place):
     return first_kept(web, place, comes_home)
 
 
-def goes_out(left, known, place):
-    """Whether the roads left can bring the news of the place everywhere on the same day."""
+def goes_out(left, known, start, at):
+    """Whether the roads left, if the one at this index goes, can bring the news of a place everywhere that day."""
+    _, near, far = left[at]
+    if known[near] >> start & 1 or known[far] >> start & 1:
+        return True
     # Walked outwards, they bring it through each of their pieces in which somebody knows it.
-    return all([any([place in known[one] for one in piece]) for piece in pieces_of(left)])
+    holders = [one for one in range(len(known)) if known[one] >> start & 1]
+    return flooded(left[:at] + left[at + 1:], sum([1 << one for one in holders])) == (1 << len(known)) - 1
 
 
-def comes_home(left, known, place):
-    """Whether the roads left can bring all news to the place on the same day."""
-    # Walked inwards, they bring home what is known in the place's piece.
-    homes = [piece for piece in pieces_of(left) if place in piece]
-    return all([any([other in known[one] for one in homes[0]]) for other in left[0]])
+def comes_home(left, known, start, at):
+    """Whether the roads left, if the one at this index goes, can bring all news to a place that day."""
+    _, near, far = left[at]
+    home = flooded(left[:at] + left[at + 1:], 1 << start)
+    if home >> near & 1 == home >> far & 1:
+        return True
+    # Walked inwards, they bring home what is known in the place's piece, which is cut off from one end of the road.
+    gathered = known[near] | known[far]
+    for one in range(len(known)):
+        if home >> one & 1:
+            gathered = gathered | known[one]
+    return gathered == (1 << len(known)) - 1
 
 
-def first_kept(web, place, can_end):
-    """The first rota behind each walk of which can_end holds for the roads left and what is known."""
-    known = {one: (one,) for one in web[0]}
-    left = web
+def flooded(left, bits):
+    """The places, told by bits, that the roads left join with those in bits."""
+    held = 0
+    more = bits
+    while more != held:
+        held = more
+        for _, near, far in left:
+            if more >> near & 1 != more >> far & 1:
+                more = more | 1 << near | 1 << far
+    return held
+
+
+def first_kept(web, place, can_go):
+    """The first rota each of whose roads can go next, by the roads left and by what is known, told by bits."""
+    numbers = {one: at for at, one in enumerate(web[0])}
+    left = [(name, numbers[near], numbers[far]) for name, near, far in web[1]]
+    known = [1 << at for at in range(len(numbers))]
     rota = []
-    while left[1]:
-        name = first_road(left, known, place, can_end)
-        near, far = ends_of(left)[name]
-        known = told(known, near, far)
-        left = without_road(left, name)
+    while left:
+        at = 0
+        while not can_go(left, known, numbers[place], at):
+            at = at + 1
+        name, near, far = left[at]
+        known = known_behind([(near, far)], known)
+        left = left[:at] + left[at + 1:]
         rota.append(name)
     return tuple(rota)
-
-
-def first_road(left, known, place, can_end):
-    """The first of the roads left behind whose walk can_end holds."""
-    return [
-        name for name, near, far in left[1] if can_end(without_road(left, name), told(known, near, far), place)
-    ][0]
 
 
 def least_of_tree(web):
@@ -98,7 +114,19 @@ def least_slowest(web):
     names = [road[0] for road in web[1]]
     if len(names) > MOST_TRIED_ROADS:
         raise TooMany(f"there are {len(names)} roads")
-    return min([slowest_in(web, table_of(web, (rota,)))[0] for rota in permutations(names)])
+    return least_tried(web)
+
+
+def least_tried(web):
+    """The least slowest days of all rotas of a web with a ring, of which those that are alike are tried once."""
+    best = len(web[0])
+    ends = numbered_ends(web)
+    one, two = ring_of(web)[:2]
+    for rota in unlike_rotas(web):
+        # Backwards all days are those of the other way, so one of both is enough: that in which these two stand so.
+        if rota.index(one) < rota.index(two):
+            best = days_until_all([ends[name] for name in rota], len(web[0]), best)
+    return best
 
 
 def slow_paper(web, days):

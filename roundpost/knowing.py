@@ -3,9 +3,9 @@
 from roundpost.counts import need_count
 from roundpost.errors import TooMany
 from roundpost.rotas import need_rota
-from roundpost.spread import spread, told
-from roundpost.tables import table_of
-from roundpost.webs import ends_of, need_web, without_road
+from roundpost.spread import spread
+from roundpost.tables import known_behind, numbered_ends, table_of
+from roundpost.webs import need_web, without_road
 from roundpost.weeks import need_moment, need_week, round_of
 
 MOST_DAYS = 200
@@ -46,17 +46,24 @@ def taught(web, week, count):
     many = sum([len(round_of(week, day)) for day in range(1, count + 1)])
     if many > MOST_WALKS:
         raise TooMany(f"there are {many} walks on these days")
-    ends = ends_of(web)
-    known = {place: (place,) for place in web[0]}
+    ends = numbered_ends(web)
+    known = [1 << at for at in range(len(web[0]))]
     found = []
     for day in range(1, count + 1):
         for index, name in enumerate(round_of(week, day)):
             near, far = ends[name]
-            learned = [(near, one) for one in known[far] if one not in known[near]]
-            learned.extend([(far, one) for one in known[near] if one not in known[far]])
-            known = told(known, near, far)
-            found.append((day, index, name, sorted(learned)))
+            learned = []
+            if known[near] != known[far]:
+                learned = sorted(learned_by(web, known, near, far) + learned_by(web, known, far, near))
+                known = known_behind([(near, far)], known)
+            found.append((day, index, name, learned))
     return found
+
+
+def learned_by(web, known, here, there):
+    """The list of (place, place) of whose news the one place learns from the other, by what both know."""
+    news = known[there] & ~known[here]
+    return [(web[0][here], one) for at, one in enumerate(web[0]) if news >> at & 1]
 
 
 def lessons(web, week, count):

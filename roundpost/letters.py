@@ -5,7 +5,7 @@ from roundpost.counts import is_count
 from roundpost.errors import BadDay, TooMany
 from roundpost.rotas import need_rota
 from roundpost.spread import spread
-from roundpost.tables import known_each_day, numbered_rounds, table_of
+from roundpost.tables import known_each_day, numbered_ends, numbered_rounds, table_of
 from roundpost.webs import need_road, need_tree, steps_from, without_road
 
 LAST_DAY = 1000
@@ -144,7 +144,17 @@ def lightest_peak(web):
         raise TooMany(f"there are {len(web[1])} roads")
     sides = [side for two in sides_of(web).values() for side in two]
     counts = [how_many(bits) for bits in range(1 << len(web[0]))]
-    return min([peak_of(sides, counts, days_known(web, rota)) for rota in unlike_rotas(web)])
+    ends = numbered_ends(web)
+    # On day 1 each place's own letters leave it together, so no rota carries fewer than go beyond one of its roads.
+    fewest = max([many for _, _, _, many in sides], default=0)
+    least = None
+    for rota in unlike_rotas(web):
+        peak = peak_of(sides, counts, known_each_day([[ends[name] for name in rota]], len(web[0])))
+        if least is None or peak < least:
+            least = peak
+        if least == fewest:
+            break
+    return least
 
 
 def peak_of(sides, counts, known):

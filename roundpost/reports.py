@@ -6,7 +6,7 @@ from roundpost.alike import unlike_rotas
 from roundpost.counts import is_count
 from roundpost.errors import BadReports, BadRotas, TooMany
 from roundpost.rotas import is_rota, need_rota
-from roundpost.tables import is_day_in, known_each_day, numbered_rounds, table_of
+from roundpost.tables import is_day_in, known_each_day, numbered_ends, table_of
 from roundpost.webs import need_tree, need_web, roads_at
 
 MOST_REPORTS = 30
@@ -44,16 +44,17 @@ def numbered_reports(web, reports):
     return [(web[0].index(place), web[0].index(other), day) for place, other, day in reports]
 
 
-def are_met(web, rota, numbered):
-    """The list, for each of the reports, of whether the rota has its days."""
-    known = known_each_day(numbered_rounds(web, (rota,)), len(web[0]))
+def are_met(ends, many, rota, numbered):
+    """The list, for each of the reports, of whether it has the days of a rota of roads with these ends."""
+    known = known_each_day([[ends[name] for name in rota]], many)
     return [is_day_in(known, start, goal, day) for start, goal, day in numbered]
 
 
 def first_fitting(web, reports):
     """The list of the first of all alike rotas that fit the reports."""
     numbered = numbered_reports(web, reports)
-    return [rota for rota in unlike_rotas(web) if all(are_met(web, rota, numbered))]
+    ends, many = numbered_ends(web), len(web[0])
+    return [rota for rota in unlike_rotas(web) if all(are_met(ends, many, rota, numbered))]
 
 
 def fitting_rotas(web, reports):
@@ -69,7 +70,7 @@ def fits(web, rota, reports):
     need_web(web)
     need_rota(web, rota)
     need_reports(web, reports)
-    return all(are_met(web, rota, numbered_reports(web, reports)))
+    return all(are_met(numbered_ends(web), len(web[0]), rota, numbered_reports(web, reports)))
 
 
 def sure_orders(web, reports):
@@ -151,8 +152,9 @@ def fault_of(web, reports):
     numbered = numbered_reports(web, reports)
     # For each rota, by bits, which reports it does not meet: reports are at fault if each rota fails one of them.
     failed = {}
+    ends = numbered_ends(web)
     for rota in unlike_rotas(web):
-        met = are_met(web, rota, numbered)
+        met = are_met(ends, len(web[0]), rota, numbered)
         failed[sum([1 << at for at in range(len(met)) if not met[at]])] = True
     for many in range(len(reports) + 1):
         for chosen in combinations(range(len(reports)), many):

@@ -3,8 +3,8 @@
 from roundpost.errors import BadWay
 from roundpost.rotas import need_rota
 from roundpost.spread import spread
-from roundpost.tables import table_of
-from roundpost.webs import distance, ends_of, need_one_piece, need_place, need_web, places_along, steps_from
+from roundpost.tables import days_between, numbered_rounds, table_of
+from roundpost.webs import ends_of, need_one_piece, need_place, need_web, places_along, steps_from
 from roundpost.weeks import need_moment, need_week
 
 
@@ -49,9 +49,12 @@ def there_and_back(web, rota, place, other):
     need_rota(web, rota)
     need_place(web, place)
     need_place(web, other)
-    table = table_of(web, (rota,))
+    steps = steps_from(web, place).get(other)
+    if steps is None:
+        return None, None, None
+    ends = numbered_rounds(web, (rota,))[0]
     start, goal = web[0].index(place), web[0].index(other)
-    return table[start][goal], table[goal][start], distance(web, place, other)
+    return days_between(ends, start, goal), days_between(ends, goal, start), steps
 
 
 def pairs_of(web):

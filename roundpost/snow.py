@@ -1,6 +1,5 @@
 """Walks that fall out: when news comes in snow, and the snow that makes it latest."""
 
-from itertools import combinations
 from math import comb
 
 from roundpost.counts import is_count, need_count
@@ -58,6 +57,57 @@ def snow_days(web, rota, place, other, snow):
     return days_from(web, (rota,), place, snow)[web[0].index(other)]
 
 
+def quickest(route, fallen):
+    """The walks by which news of the dawn comes first from the route's place to its other one, in snow."""
+    walked, place, other = route
+    came = {place: ()}
+    day = 0
+    while other not in came:
+        day = day + 1
+        for name, near, far in walked:
+            if (near in came) != (far in came) and (day, name) not in fallen:
+                here, there = (near, far) if near in came else (far, near)
+                came[there] = (*came[here], (day, name))
+    return came[other]
+
+
+def worst_day(route, fallen, count):
+    """The greatest day that so many walks more falling out can make."""
+    steps = quickest(route, fallen)
+    first = steps[-1][0]
+    worst = first
+    for walk in steps:
+        # Each walk makes it at most a day later, and none does so but those by which the news comes.
+        if worst < first + count:
+            worst = max(worst, worst_day(route, (*fallen, walk), count - 1))
+    return worst
+
+
+def can_make(route, fallen, last, count, goal):
+    """Whether at most so many walks behind the last, falling out too, make the news come on this day or later."""
+    steps = quickest(route, fallen)
+    first = steps[-1][0]
+    if first >= goal or first + count < goal:
+        return first >= goal
+    for walk in steps:
+        if walk > last and can_make(route, (*fallen, walk), last, count - 1, goal):
+            return True
+    return False
+
+
+def first_snow(route, walks, count, goal):
+    """The first snow of just so many of the walks that makes the news come on this day."""
+    chosen = ()
+    for left in range(count - 1, -1, -1):
+        # So many walks must stand behind this one as are left to choose, needless ones too.
+        for at in range(len(walks) - left):
+            walk = walks[at]
+            if (not chosen or walk > chosen[-1]) and can_make(route, (*chosen, walk), walk, left, goal):
+                chosen = (*chosen, walk)
+                break
+    return chosen
+
+
 def worst_snow(web, rota, place, other, count):
     """The greatest day that so many walks falling out can make, and the first snow that makes it."""
     need_web(web)
@@ -67,18 +117,14 @@ def worst_snow(web, rota, place, other, count):
     if place == other:
         raise BadPlace("these are not two places")
     need_count(count, 0, MOST_COUNT)
-    goal = web[0].index(other)
-    first = days_from(web, (rota,), place)[goal]
+    first = days_from(web, (rota,), place)[web[0].index(other)]
     if first is None:
         return None, ()
     walks = [(day, name) for day in range(1, first + count + 1) for name in sorted(rota)]
     choices = comb(len(walks), count)
     if choices > MOST_CHOICES:
         raise TooMany(f"there are {choices} choices of walks")
-    worst = (0, ())
-    # The choices come in their sequence, so the first with the greatest day is kept.
-    for snow in combinations(walks, count):
-        day = days_from(web, (rota,), place, snow)[goal]
-        if day > worst[0]:
-            worst = (day, snow)
-    return worst
+    ends = ends_of(web)
+    route = ([(name, *ends[name]) for name in rota], place, other)
+    worst = worst_day(route, (), count)
+    return worst, first_snow(route, walks, count, worst)

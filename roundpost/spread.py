@@ -51,12 +51,3 @@ def days_from(web, week, place, fallen=()):
     # Where it sets out it need not come: that day is told as 0.
     come[place] = 0
     return listed(web, come)
-
-
-def told(known, near, far):
-    """The dict of the tuples of places whose news each place knows, behind a walk between two of them."""
-    after = {place: known[place] for place in known}
-    both = tuple(sorted(set(known[near] + known[far])))
-    after[near] = both
-    after[far] = both
-    return after

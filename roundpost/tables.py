@@ -4,10 +4,15 @@ Places are told by their numbers, sets of places by a bit for each.
 """
 
 
+def numbered_ends(web):
+    """The dict of the (number, number) of the two places of each road."""
+    numbers = {place: at for at, place in enumerate(web[0])}
+    return {name: (numbers[near], numbers[far]) for name, near, far in web[1]}
+
+
 def numbered_rounds(web, week):
     """The list, for each round, of the list of the (number, number) of the places of each of its roads."""
-    numbers = {place: at for at, place in enumerate(web[0])}
-    ends = {name: (numbers[near], numbers[far]) for name, near, far in web[1]}
+    ends = numbered_ends(web)
     return [[ends[name] for name in names] for names in week]
 
 
@@ -35,6 +40,29 @@ def known_behind(ends, known):
             after[near] = both
             after[far] = both
     return after
+
+
+def days_until_all(ends, many, most):
+    """The day at whose end each of so many places knows all, by the same walks each day; most, if not earlier."""
+    known = [1 << at for at in range(many)]
+    whole = (1 << many) - 1
+    for day in range(most):
+        if known.count(whole) == many:
+            return day
+        known = known_behind(ends, known)
+    return most
+
+
+def days_between(ends, start, goal):
+    """The day on which news comes from a place to another one to which it does come, by the same walks each day."""
+    known = 1 << start
+    day = 0
+    while known >> goal & 1 == 0:
+        day = day + 1
+        for near, far in ends:
+            if known >> near & 1 or known >> far & 1:
+                known = known | 1 << near | 1 << far
+    return day
 
 
 def is_day_in(known, start, goal, day):

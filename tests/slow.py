@@ -162,3 +162,19 @@ def all_orders(web):
         names = [name for name, near, far in web[1] if place in (near, far)]
         found = [orders + [tuple(chosen)] for orders in found for chosen in permutations(names)]
     return found
+
+
+def walked_table(web, rota, fallen=()):
+    """The list of the lists of all days by a rota, by carrying all that is known at either end, walk by walk."""
+    ends = {name: two for name, *two in web[1]}
+    known = {place: {place} for place in web[0]}
+    days = {(place, place): 0 for place in web[0]}
+    for day in range(1, len(web[0]) + len(fallen) + 1):
+        for name in rota:
+            if (day, name) not in fallen:
+                both = set().union(*[known[place] for place in ends[name]])
+                for place in ends[name]:
+                    known[place] = both
+                    for other in both:
+                        days.setdefault((other, place), day)
+    return [[days.get((place, other)) for other in web[0]] for place in web[0]]

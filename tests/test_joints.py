@@ -273,7 +273,8 @@ class Weaving(unittest.TestCase):
         right = (0, 1, 0, 1, 0, 1, 0)
         self.assertEqual(len(woven_rota(T, MORE, "c", rota, second, right)), 7)
         for turns in odd_things() + [
-            list(right), right[1:], right[:6], right + (0,), right + (1,), (1, 1, 0, 1, 0, 1, 0), (0,) * 7, (1,) * 7,
+            list(right), right[1:], right[:6], right + (0,), right + (1,), right + (2,), right + (-1,), right + (None,),
+            (1, 1, 0, 1, 0, 1, 0), (0,) * 7, (1,) * 7,
             (0, 0, 0, 1, 0, 1, 0), (0, True, 0, 1, 0, 1, 0), (False, 1, 0, 1, 0, 1, 0), (2, 1, 0, 1, 0, 1, 0),
             (0, 1, 0, 1, 0, 1, None), (0, 1, 0, 1, 0, 1, -1), (0, 1, 0, 1, 0, 1, "0"), "0101010",
             ((0, 1, 0, 1, 0, 1, 0),),
