@@ -42,9 +42,7 @@ def comes_home(left, known, start, at):
     """Whether the roads left, if the one at this index goes, can bring all news to a place that day."""
     _, near, far = left[at]
     home = flooded(left[:at] + left[at + 1:], 1 << start)
-    if home >> near & 1 == home >> far & 1:
-        return True
-    # Walked inwards, they bring home what is known in the place's piece, which is cut off from one end of the road.
+    # Walked inwards, they bring home what is known in the place's piece, at an end of the road what is known at both.
     gathered = known[near] | known[far]
     for one in range(len(known)):
         if home >> one & 1:
@@ -111,9 +109,8 @@ def least_slowest(web):
     need_one_piece(web)
     if is_tree(web):
         return least_of_tree(web)
-    names = [road[0] for road in web[1]]
-    if len(names) > MOST_TRIED_ROADS:
-        raise TooMany(f"there are {len(names)} roads")
+    if len(web[1]) > MOST_TRIED_ROADS:
+        raise TooMany(f"there are {len(web[1])} roads")
     return least_tried(web)
 
 

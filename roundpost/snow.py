@@ -99,9 +99,8 @@ def first_snow(route, walks, count, goal):
     """The first snow of just so many of the walks that makes the news come on this day."""
     chosen = ()
     for left in range(count - 1, -1, -1):
-        # So many walks must stand behind this one as are left to choose, needless ones too.
-        for at in range(len(walks) - left):
-            walk = walks[at]
+        for walk in walks:
+            # More walks fallen make nothing earlier, so what fewer can make just so many can, needless ones too.
             if (not chosen or walk > chosen[-1]) and can_make(route, (*chosen, walk), walk, left, goal):
                 chosen = (*chosen, walk)
                 break

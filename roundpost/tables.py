@@ -19,12 +19,13 @@ def numbered_rounds(web, week):
 def known_each_day(rounds, many):
     """The list of the lists of what so many places know at the end of each day, the dawn of day 1 first.
 
-    It ends where nothing more is learned.
+    It ends where nothing more is learned, or a few days later.
     """
     known = [1 << at for at in range(many)]
+    whole = (1 << many) - 1
     found = [known]
     idle = 0
-    while idle < len(rounds):
+    while idle < len(rounds) and known.count(whole) < many:
         known = known_behind(rounds[(len(found) - 1) % len(rounds)], known)
         idle = idle + 1 if known == found[-1] else 0
         found.append(known)
